@@ -1,0 +1,1 @@
+"""Firmrows: answers of a database that nothing later can take back."""

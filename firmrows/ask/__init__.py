@@ -1,0 +1,1 @@
+"""Questions and their matches."""

@@ -1,0 +1,1 @@
+"""Rows, patterns and databases."""

@@ -1,0 +1,1 @@
+"""Licences and the futures of a database."""

@@ -1,0 +1,1 @@
+"""Papers, which show that a result is correct."""

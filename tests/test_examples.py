@@ -1,0 +1,31 @@
+"""The examples of the document."""
+
+import doctest
+import os
+import unittest
+
+from firmrows.ask import matches, questions
+from firmrows.base import databases, patterns, rows
+from firmrows.future import futures, licences
+from firmrows.papers import trees
+
+MODULES = (rows, patterns, databases, questions, matches, licences, futures, trees)
+
+
+class ExampleTests(unittest.TestCase):
+    def test_examples(self):
+        names = {}
+        for module in MODULES:
+            names.update({name: value for name, value in vars(module).items() if not name.startswith("_")})
+        place = os.path.join(os.path.dirname(os.path.abspath(__file__)), "examples.txt")
+        with open(place, encoding="utf-8") as file:
+            text = file.read()
+        test = doctest.DocTestParser().get_doctest(text, names, "examples", place, 0)
+        self.assertEqual(len(test.examples), 16)
+        told = []
+        result = doctest.DocTestRunner(verbose=False).run(test, out=told.append)
+        self.assertEqual(result.failed, 0, "".join(told))
+
+
+if __name__ == "__main__":
+    unittest.main()

@@ -1,0 +1,90 @@
+"""Where the functions, classes and methods of the interface stand, and how they are called [0.3]."""
+
+import importlib
+import inspect
+import unittest
+
+FUNCTIONS = {
+    "firmrows.base.rows": ("is_name(value)", "is_row(value)", "is_pattern(value)"),
+    "firmrows.base.patterns": (
+        "blanks_of(pattern)", "plain(pattern)", "fits(pattern, row)", "filled(pattern, numbers)",
+        "covers(pattern, other)", "common(pattern, other)",
+    ),
+    "firmrows.ask.questions": (
+        "make_rule(head, *wanted, barred=(), unlike=())", "is_rule(value)", "variables_of(rule)",
+    ),
+    "firmrows.ask.matches": (
+        "matches(question, database)", "matches_of(question, database, answer)",
+        "first_match(question, database, answer)", "is_match(question, database, index, value)",
+        "answer_of(question, index, numbers)", "rows_of(question, index, numbers)",
+    ),
+    "firmrows.future.futures": (
+        "can_change(database, licence, row)", "changed(database, licence, *rows)",
+        "is_future(database, licence, value)", "barrier(database, licence, other)",
+        "futures(database, licence, rows)",
+    ),
+    "firmrows.papers.trees": (
+        "is_tree(value)", "depth(tree)", "asked(tree)", "leaf_at(tree, database)",
+        "is_case_tree(question, database, licence, answer, value)",
+    ),
+}
+CLASSES = {
+    ("firmrows.base.databases", "Database"): (
+        ("rows", "numbers", "tables"),
+        ("of(rows)", "with_rows(*rows)", "without_rows(*rows)", "fitting(pattern)", "cut(numbers)",
+         "moved(numbers)", "is_within(value)"),
+        ("__init__", "__or__", "__and__", "__sub__", "__xor__", "__contains__", "__len__", "__eq__", "__str__"),
+    ),
+    ("firmrows.ask.questions", "Question"): (
+        ("rules", "width", "named"),
+        ("of(rules, *, width=None)", "with_rule(rule)", "without_rule(index)", "moved(numbers)"),
+        ("__init__", "__call__", "__or__", "__len__", "__eq__", "__str__"),
+    ),
+    ("firmrows.future.licences", "Licence"): (
+        ("come", "go", "shut", "kept", "numbers"),
+        ("may_come(row)", "may_go(row)", "sealed(*patterns, come=True, go=True)"),
+        ("__init__", "__eq__", "__str__"),
+    ),
+}
+
+
+class InterfaceTests(unittest.TestCase):
+    def test_functions(self):
+        for place, texts in FUNCTIONS.items():
+            module = importlib.import_module(place)
+            for text in texts:
+                with self.subTest(place=place, text=text):
+                    name = text.partition("(")[0]
+                    function = getattr(module, name)
+                    self.assertTrue(inspect.isfunction(function))
+                    self.assertEqual(function.__module__, place)
+                    self.assertEqual(name + str(inspect.signature(function)), text)
+
+    def test_classes(self):
+        for (place, name), (properties, methods, doubles) in CLASSES.items():
+            kind = getattr(importlib.import_module(place), name)
+            self.assertEqual(kind.__module__, place)
+            for part in properties:
+                with self.subTest(name=name, part=part):
+                    self.assertIsInstance(vars(kind)[part], property)
+            for part in doubles:
+                with self.subTest(name=name, part=part):
+                    self.assertIn(part, vars(kind))
+            for text in methods:
+                with self.subTest(name=name, text=text):
+                    part = text.partition("(")[0]
+                    self.assertIn(part, vars(kind))
+                    told = str(inspect.signature(getattr(kind, part))).replace("(self, ", "(").replace("(self)", "()")
+                    self.assertEqual(part + told, text)
+
+    def test_signatures_of_the_classes(self):
+        from firmrows.ask.questions import Question
+        from firmrows.base.databases import Database
+        from firmrows.future.licences import Licence
+        self.assertEqual(str(inspect.signature(Database)), "(*rows)")
+        self.assertEqual(str(inspect.signature(Question)), "(*rules, width=None)")
+        self.assertEqual(str(inspect.signature(Licence)), "(*, come=(), go=(), shut=(), kept=())")
+
+
+if __name__ == "__main__":
+    unittest.main()
