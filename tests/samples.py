@@ -11,7 +11,7 @@ from itertools import combinations
 from firmrows.ask.matches import matches
 from firmrows.ask.questions import Question, make_rule
 from firmrows.base.databases import Database
-from firmrows.errors import InvalidNumber
+from firmrows.errors import InvalidAnswer, InvalidDatabase, InvalidLicence, InvalidNumber, InvalidQuestion
 from firmrows.future.licences import Licence
 
 EITHER = Question(make_rule((), barred=(("a",),)), make_rule((), barred=(("b",),)))
@@ -133,6 +133,13 @@ def wrong_bindings(names):
     return [value for value in every_value() + near if not (
         type(value) is dict and sorted(map(repr, value)) == sorted(map(repr, names))
         and all(is_plain_integer(value[key]) for key in value))]
+
+
+# What `check_errors` needs for the parameters that most functions of papers have.
+CASE = (
+    (SPLIT, wrong_objects(Question), InvalidQuestion), (ROWS, wrong_objects(Database), InvalidDatabase),
+    (GROWING, wrong_objects(Licence), InvalidLicence), ((1,), wrong_answers(1), InvalidAnswer),
+)
 
 
 class ErrorTests(unittest.TestCase):

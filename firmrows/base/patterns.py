@@ -88,23 +88,34 @@ def covers(pattern, other):
     return bound(pattern, other) is not None
 
 
-def marked(pattern, mark):
+def marked(pattern):
     """Return the terms of a pattern, each blank with a mark that no name has."""
-    return [mark + term if isinstance(term, str) else term for term in pattern[1:]]
+    return tuple(["2 " + term if isinstance(term, str) else term for term in pattern[1:]])
+
+
+def meeting(pattern, other):
+    """Return what the blanks of the first pattern become in the rows that fit both, or None.
+
+    The blanks of the second pattern are marked, so equal blanks of the two mean nothing to one another.
+    Blanks that must become equal get the same term.
+    """
+    if pattern[0] != other[0] or len(pattern) != len(other):
+        return None
+    names = [term for term in pattern[1:] if isinstance(term, str)]
+    images = tuple(names)
+    ones, twos = pattern[1:], marked(other)
+    for k in range(len(ones)):
+        one, two = ones[k], twos[k]
+        if is_integer(one) and is_integer(two) and one != two:
+            return None
+        table = {two: one} if is_integer(one) else {one: two}
+        ones, twos, images = put_in_terms(ones, table), put_in_terms(twos, table), put_in_terms(images, table)
+    return dict(zip(names, images))
 
 
 def common(pattern, other):
     """Return the plain pattern that exactly the rows which fit both patterns fit, or None."""
     check_pattern(pattern)
     check_pattern(other)
-    if pattern[0] != other[0] or len(pattern) != len(other):
-        return None
-    # The marks keep equal blanks of the two patterns apart.
-    ones, twos = marked(pattern, "1 "), marked(other, "2 ")
-    for k in range(len(ones)):
-        one, two = ones[k], twos[k]
-        if is_integer(one) and is_integer(two) and one != two:
-            return None
-        table = {two: one} if is_integer(one) else {one: two}
-        ones, twos = put_in_terms(ones, table), put_in_terms(twos, table)
-    return plain_form(pattern[:1] + tuple(ones))
+    table = meeting(pattern, other)
+    return None if table is None else plain_form(put_in(pattern, table))

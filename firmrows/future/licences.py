@@ -1,6 +1,6 @@
 """Licences: which rows may come, and which may go."""
 
-from firmrows.base.patterns import bound, plain_form
+from firmrows.base.patterns import bound, meeting, plain_form, put_in
 from firmrows.base.rows import check_pattern, check_row, is_pattern
 from firmrows.errors import InvalidLicence, InvalidOperation
 
@@ -127,6 +127,18 @@ def has_fitting(patterns, row):
         if bound(pattern, row) is not None:
             return True
     return False
+
+
+def comings(pattern, licence):
+    """Return what the blanks of a pattern become in its rows that may come: a list of dicts.
+
+    A dict tells of blanks that must become integers, or equal, to fit a pattern of `come`. There is none
+    for rows that are all shut. As there are endlessly many integers, that is so only if one pattern of
+    `shut` covers them all.
+    """
+    lets = (pattern,) if licence.come == ANY else licence.come
+    tables = [meeting(pattern, let) for let in lets]
+    return [table for table in tables if table is not None and not has_fitting(licence.shut, put_in(pattern, table))]
 
 
 def check_licence(licence):

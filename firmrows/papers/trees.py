@@ -1,12 +1,11 @@
 """Case trees: they show that an answer stays, whatever comes and goes."""
 
-from firmrows.ask.questions import check_answer, check_question
 from firmrows.ask.rules import put_in_rule, variables_in
 from firmrows.base.databases import check_database
 from firmrows.base.rows import is_integer, is_integers, is_row
 from firmrows.errors import InvalidOperation
 from firmrows.future.futures import is_changeable
-from firmrows.future.licences import check_licence
+from firmrows.papers.checks import check_case
 
 ASK = "ask"
 MATCH = "match"
@@ -138,11 +137,13 @@ class TreeCheck:
         return self.is_right(yes, there + (row,), away) and self.is_right(no, there, away + (row,))
 
 
-def is_case_tree(question, database, licence, answer, value):
-    """Return whether the value is a right case tree of a depth of at most 20."""
-    check_question(question)
-    check_database(database)
-    check_licence(licence)
-    check_answer(question, answer)
+def is_right_tree(question, database, licence, answer, value):
+    """Return what `is_case_tree` returns, for arguments that are checked."""
     check = TreeCheck(question, database, licence, answer)
     return is_tree(value) and check.is_right(value, (), ())
+
+
+def is_case_tree(question, database, licence, answer, value):
+    """Return whether the value is a right case tree of a depth of at most 20."""
+    check_case(question, database, licence, answer)
+    return is_right_tree(question, database, licence, answer, value)

@@ -1,0 +1,1 @@
+"""Questions compared with one another, for every database."""

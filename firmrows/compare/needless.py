@@ -1,0 +1,108 @@
+"""Parts of a question that are not needed."""
+
+from firmrows.ask.questions import Question, check_question
+from firmrows.ask.rules import variables_in
+from firmrows.base.rows import is_integer
+from firmrows.compare.within import is_within, paper_within
+from firmrows.errors import InvalidOperation
+
+RULE = "rule"
+WANTED = "wanted"
+BARRED = "barred"
+UNLIKE = "unlike"
+PLACES = {"wanted": 1, "barred": 2, "unlike": 3}
+
+
+def without(values, index):
+    """Return the tuple without the value with this index."""
+    return values[:index] + values[index + 1:]
+
+
+def can_miss(rule, index):
+    """Return whether each variable of the rule is in another wanted pattern than the one with this index."""
+    rest = ((), without(rule[1], index), (), ())
+    return variables_in(rest) == variables_in(rule)
+
+
+def parts_of_rule_at(rule, k):
+    """Return the list of the parts of the rule with the index k."""
+    _, wanted, barred, unlike = rule
+    parts = [(RULE, k)] + [(WANTED, k, i) for i in range(len(wanted)) if can_miss(rule, i)]
+    parts.extend([(BARRED, k, i) for i in range(len(barred))])
+    return parts + [(UNLIKE, k, i) for i in range(len(unlike))]
+
+
+def every_part(question):
+    """Return what `parts_of` returns, for a question that is checked."""
+    return tuple([part for k, rule in enumerate(question.rules) for part in parts_of_rule_at(rule, k)])
+
+
+def parts_of(question):
+    """Return the tuple of the parts of a question."""
+    check_question(question)
+    return every_part(question)
+
+
+def check_part(question, part):
+    """Raise InvalidOperation if the value is not a part of the question."""
+    # (.., True) is equal to (.., 1), but True is no index.
+    right = isinstance(part, tuple) and all([is_integer(index) for index in part[1:]])
+    if not right or part not in every_part(question):
+        raise InvalidOperation("not a part of the question")
+
+
+def rest_without(question, part):
+    """Return what `rest_of` returns, for arguments that are checked."""
+    k = part[1]
+    rules = question.rules
+    if part[0] == RULE:
+        return Question.of(without(rules, k), width=question.width)
+    place = PLACES[part[0]]
+    less = without(rules[k][place], part[2])
+    rule = rules[k][:place] + (less,) + rules[k][place + 1:]
+    return Question.of(rules[:k] + (rule,) + rules[k + 1:], width=question.width)
+
+
+def rest_of(question, part):
+    """Return the question without a part."""
+    check_question(question)
+    check_part(question, part)
+    return rest_without(question, part)
+
+
+def part_paper(question, part):
+    """Return a within paper that begins with "within" exactly if the part is needless."""
+    check_question(question)
+    check_part(question, part)
+    rest = rest_without(question, part)
+    return paper_within(question, rest) if part[0] == RULE else paper_within(rest, question)
+
+
+def is_needless(question, part):
+    """Return whether a part of the question is needless."""
+    rest = rest_without(question, part)
+    return is_within(question, rest) if part[0] == RULE else is_within(rest, question)
+
+
+def needless(question):
+    """Return the tuple of the needless parts."""
+    check_question(question)
+    return tuple([part for part in every_part(question) if is_needless(question, part)])
+
+
+def first_needless(question):
+    """Return the first needless part, or None."""
+    for part in every_part(question):
+        if is_needless(question, part):
+            return part
+    return None
+
+
+def trimmed(question):
+    """Return the question without needless parts, the first one being left out again and again."""
+    check_question(question)
+    part = first_needless(question)
+    while part is not None:
+        question = rest_without(question, part)
+        part = first_needless(question)
+    return question

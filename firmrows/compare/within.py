@@ -1,0 +1,126 @@
+"""Whether all answers of a question are answers of another one, in every database."""
+
+from firmrows.ask.matches import first_match
+from firmrows.ask.questions import check_question
+from firmrows.base.databases import Database
+from firmrows.base.rows import is_integers
+from firmrows.compare.frozen import freeze, freeze_at_most, joint
+from firmrows.errors import InvalidOperation
+from firmrows.future.licences import Licence
+from firmrows.papers.cases import case_search
+from firmrows.papers.trees import is_right_tree
+
+WITHIN = "within"
+APART = "apart"
+EQUAL = "equal"
+AROUND = "around"
+
+
+def check_both(question, other):
+    """Raise the error if the values are not two questions of one width."""
+    check_question(question)
+    check_question(other)
+    if question.width != other.width:
+        raise InvalidOperation("the widths of the questions differ")
+
+
+def case_of(frozen, growing):
+    """Return the database, the licence and the answer for which a frozen rule has its case tree.
+
+    If growing is true, all rows may come, also those that are barred.
+    """
+    head, rows, away = frozen
+    shut = () if growing else away
+    return (Database.of(rows), Licence(come="any", shut=shut), head)
+
+
+def trees_for(frozen, question, growing):
+    """Return a triple: the case trees for frozen rules, or None, a frozen rule, and a spoiler for it."""
+    trees = []
+    for one in frozen:
+        base, licence, head = case_of(one, growing)
+        tree, spoiler = case_search(question, base, licence, head)
+        if tree is None:
+            return (None, one, spoiler)
+        trees.append(tree)
+    return (tuple(trees), None, None)
+
+
+def are_trees_for(rules, numbers, question, growing, value):
+    """Return whether the value is a tuple of right case trees for the frozen rules of some rules."""
+    if not isinstance(value, tuple):
+        return False
+    frozen = freeze_at_most(rules, numbers, len(value))
+    if frozen is None or len(frozen) != len(value):
+        return False
+    for one, tree in zip(frozen, value):
+        base, licence, head = case_of(one, growing)
+        if not is_right_tree(question, base, licence, head, tree):
+            return False
+    return True
+
+
+def has_answer(question, base, answer):
+    """Return whether the question has the answer in the database."""
+    return first_match(question, base, answer) is not None
+
+
+def is_answer_in(question, base, answer):
+    """Return whether the values are a database and a tuple of as many integers as the width."""
+    return isinstance(base, Database) and is_integers(answer) and len(answer) == question.width
+
+
+def paper_within(question, other):
+    """Return what `within_paper` returns, for arguments that are checked."""
+    frozen = freeze(question.rules, joint(question.named, other.named))
+    trees, lost, spoiler = trees_for(frozen, other, False)
+    return (APART, spoiler, lost[0]) if trees is None else (WITHIN, trees)
+
+
+def are_within(rules, numbers, other):
+    """Return whether all answers of some rules are answers of the question, in every database.
+
+    The numbers are at least all the integers that are named by the rules and the question.
+    """
+    return trees_for(freeze(rules, numbers), other, False)[0] is not None
+
+
+def is_within(question, other):
+    """Return whether the question is within the other one."""
+    # A rule that both questions have is in no database the reason for a difference.
+    rules = [rule for rule in question.rules if rule not in other.rules]
+    return are_within(rules, joint(question.named, other.named), other)
+
+
+def within_paper(question, other):
+    """Return a paper that shows that the question is within the other one, or that it is not."""
+    check_both(question, other)
+    return paper_within(question, other)
+
+
+def is_paper_within(question, other, value):
+    """Return what `is_within_paper` returns, for arguments that are checked."""
+    if not isinstance(value, tuple) or len(value) == 0:
+        return False
+    if len(value) == 2 and value[0] == WITHIN:
+        return are_trees_for(question.rules, joint(question.named, other.named), other, False, value[1])
+    if len(value) != 3 or value[0] != APART:
+        return False
+    _, base, answer = value
+    if not is_answer_in(question, base, answer):
+        return False
+    return has_answer(question, base, answer) and not has_answer(other, base, answer)
+
+
+def is_within_paper(question, other, value):
+    """Return whether the value is a within paper of the two questions."""
+    check_both(question, other)
+    return is_paper_within(question, other, value)
+
+
+def comparison(question, other):
+    """Return "equal", "within", "around" or "apart"."""
+    check_both(question, other)
+    if is_within(question, other):
+        return EQUAL if is_within(other, question) else WITHIN
+    return AROUND if is_within(other, question) else APART

@@ -1,0 +1,1 @@
+"""Questions that never lose an answer when rows come."""
