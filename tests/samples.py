@@ -11,8 +11,15 @@ from itertools import combinations
 from firmrows.ask.matches import matches
 from firmrows.ask.questions import Question, make_rule
 from firmrows.base.databases import Database
+from firmrows.compare.frozen import frozen_rules
+from firmrows.compare.needless import parts_of
+from firmrows.compare.within import within_paper
+from firmrows.early.early import early_paper
 from firmrows.errors import InvalidAnswer, InvalidDatabase, InvalidLicence, InvalidNumber, InvalidQuestion
 from firmrows.future.licences import Licence
+from firmrows.papers.counts import share
+from firmrows.papers.firm import firm_paper
+from firmrows.papers.out import out_paper, statuses
 
 EITHER = Question(make_rule((), barred=(("a",),)), make_rule((), barred=(("b",),)))
 ALONE = Question(make_rule(("x",), ("t", "x"), barred=(("s", "x"),)))
@@ -62,7 +69,10 @@ def package_values():
         Database(), ROWS, Database(("a",)), Question(), Question(width=2), ALONE, EITHER, Licence(), GROWING,
         matches(SPLIT, ROWS), next(matches(SPLIT, ROWS)), ROWS.fitting(("t", "x")), ROWS.rows, ROWS.tables,
         ALONE.rules, make_rule(("x",), ("t", "x")), GROWING.sealed(("s", "x")).shut, (ROWS,), [ALONE],
-        ("r", ROWS), {"x": ROWS}, {1: ALONE}, (GROWING, 1),
+        ("r", ROWS), {"x": ROWS}, {1: ALONE}, (GROWING, 1), firm_paper(SPLIT, ROWS, GROWING, (1,)),
+        firm_paper(ALONE, ROWS, GROWING, (1,)), out_paper(ALONE, ROWS, GROWING, (2,)), out_paper(ALONE, ROWS, GROWING, (3,)),
+        statuses(SPLIT, ROWS, GROWING), share(SPLIT, ROWS, GROWING, (1,)), frozen_rules(ALONE), within_paper(SPLIT, ALONE),
+        parts_of(ALONE), early_paper(SPLIT), early_paper(ALONE),
     ]
 
 

@@ -276,7 +276,8 @@ class FirmTests(ErrorTests):
         for value in every_value():
             expected = isinstance(value, Database) and value == ROWS
             self.assertIs(is_spoiler(ALONE, ROWS, Licence(), (3,), value), expected)
-            self.assertIs(is_firm_paper(ALONE, ROWS, GROWING, (1,), value), False)
+            expected = type(value) is tuple and value == firm_paper(ALONE, ROWS, GROWING, (1,))
+            self.assertIs(is_firm_paper(ALONE, ROWS, GROWING, (1,), value), expected)
             for word in ("firm", "spoiled"):
                 paper = (word, value)
                 right = word == "firm" and type(value) is tuple and value == ("match", 0, (1,)) and type(value[2][0]) is int

@@ -27,6 +27,41 @@ FUNCTIONS = {
         "is_tree(value)", "depth(tree)", "asked(tree)", "leaf_at(tree, database)",
         "is_case_tree(question, database, licence, answer, value)",
     ),
+    "firmrows.papers.firm": (
+        "open_rows(question, database, licence, answer)", "firm_paper(question, database, licence, answer)",
+        "is_firm_paper(question, database, licence, answer, value)",
+        "is_spoiler(question, database, licence, answer, value)", "firm_answers(question, database, licence)",
+    ),
+    "firmrows.papers.bars": (
+        "is_bars(value)", "reason_at(tree, numbers)",
+        "is_bar_tree(question, database, licence, answer, index, value)",
+    ),
+    "firmrows.papers.out": (
+        "out_paper(question, database, licence, answer)",
+        "is_out_paper(question, database, licence, answer, value)",
+        "is_maker(question, database, licence, answer, value)", "can_be(question, database, licence, answer)",
+        "status(question, database, licence, answer)", "statuses(question, database, licence)",
+    ),
+    "firmrows.papers.counts": (
+        "share(question, database, licence, answer)", "deciders(question, database, licence, answer)",
+        "weights(question, database, licence, answer)", "least_tree(question, database, licence, answer)",
+    ),
+    "firmrows.compare.frozen": ("frozen_rules(question, *, named=())",),
+    "firmrows.compare.within": (
+        "within_paper(question, other)", "is_within_paper(question, other, value)", "comparison(question, other)",
+    ),
+    "firmrows.compare.needless": (
+        "parts_of(question)", "rest_of(question, part)", "part_paper(question, part)", "needless(question)",
+        "trimmed(question)",
+    ),
+    "firmrows.compare.named": (
+        "fresh(question)", "copy_of(question, number)", "mattering(question)", "matter_paper(question, number)",
+        "is_matter_paper(question, number, value)",
+    ),
+    "firmrows.early.early": (
+        "early_paper(question)", "is_early_paper(question, value)", "is_early(question)",
+        "kept_answers(question, database)",
+    ),
 }
 CLASSES = {
     ("firmrows.base.databases", "Database"): (

@@ -51,16 +51,20 @@ def check_part(question, part):
         raise InvalidOperation("not a part of the question")
 
 
+def rule_without(question, part):
+    """Return what is left of the rule in which a part stands that is no whole rule."""
+    rule = question.rules[part[1]]
+    place = PLACES[part[0]]
+    less = without(rule[place], part[2])
+    return rule[:place] + (less,) + rule[place + 1:]
+
+
 def rest_without(question, part):
     """Return what `rest_of` returns, for arguments that are checked."""
     k = part[1]
     rules = question.rules
-    if part[0] == RULE:
-        return Question.of(without(rules, k), width=question.width)
-    place = PLACES[part[0]]
-    less = without(rules[k][place], part[2])
-    rule = rules[k][:place] + (less,) + rules[k][place + 1:]
-    return Question.of(rules[:k] + (rule,) + rules[k + 1:], width=question.width)
+    middle = () if part[0] == RULE else (rule_without(question, part),)
+    return Question.of(rules[:k] + middle + rules[k + 1:], width=question.width)
 
 
 def rest_of(question, part):
@@ -90,19 +94,31 @@ def needless(question):
     return tuple([part for part in every_part(question) if is_needless(question, part)])
 
 
-def first_needless(question):
-    """Return the first needless part, or None."""
+def first_needless(question, known):
+    """Return the first needless part, or None.
+
+    The dict keeps which rules are within the question. While only needless parts are left out, that stays
+    true or false; and a part of a rule is needless exactly if what is left of the rule is within the question.
+    """
     for part in every_part(question):
-        if is_needless(question, part):
-            return part
+        if part[0] == RULE:
+            if is_needless(question, part):
+                return part
+        else:
+            rule = rule_without(question, part)
+            if rule not in known:
+                known[rule] = is_needless(question, part)
+            if known[rule]:
+                return part
     return None
 
 
 def trimmed(question):
     """Return the question without needless parts, the first one being left out again and again."""
     check_question(question)
-    part = first_needless(question)
+    known = {}
+    part = first_needless(question, known)
     while part is not None:
         question = rest_without(question, part)
-        part = first_needless(question)
+        part = first_needless(question, known)
     return question
