@@ -288,6 +288,8 @@ class FirmTests(ErrorTests):
         for function in (open_rows, firm_paper):
             self.check_errors(function, *CASE)
         self.check_errors(firm_answers, *CASE[:3])
+        # Also where there are no answers to look at.
+        self.check_errors(firm_answers, CASE[0], (Database(),) + CASE[1][1:], CASE[2])
         for function in (is_firm_paper, is_spoiler):
             self.check_errors(lambda *four: function(*four, None), *CASE)
 

@@ -163,6 +163,27 @@ class LanguageTests(unittest.TestCase):
             if isinstance(node.func, ast.Name) and node.func.id in ("any", "all", "min", "max", "sum", "sorted"):
                 self.assertFalse([value for value in node.args if isinstance(value, ast.GeneratorExp)], place)
 
+    def test_generators(self):
+        made = {node.name for _, node in self.nodes(ast.FunctionDef)
+                if any(isinstance(part, (ast.Yield, ast.YieldFrom)) for part in ast.walk(node))}
+        self.assertGreater(len(made), 3)
+        for path, tree in self.trees.items():
+            iterated = [node.iter for node in ast.walk(tree) if isinstance(node, (ast.For, ast.comprehension))]
+            iterated += [node.value for node in ast.walk(tree) if isinstance(node, ast.YieldFrom)]
+            for node in ast.walk(tree):
+                if isinstance(node, ast.Call) and getattr(node.func, "id", getattr(node.func, "attr", None)) in made:
+                    with self.subTest(file=path, line=node.lineno):
+                        self.assertIn(node, iterated)
+                        for value in node.args:
+                            plain = isinstance(value, (ast.Name, ast.Attribute, ast.Constant)) or ast.unparse(value) == "{}"
+                            self.assertTrue(plain or isinstance(value, ast.Call) and ast.unparse(value.func) == "len")
+
+    def test_attributes(self):
+        properties = {node.name for _, node in self.nodes(ast.FunctionDef)
+                      if any(ast.unparse(decorator) == "property" for decorator in node.decorator_list)}
+        stored = {node.attr for _, node in self.nodes(ast.Attribute) if isinstance(node.ctx, ast.Store)}
+        self.assertFalse(stored & (properties | self.methods | METHODS))
+
     def test_methods_that_only_look(self):
         for place, node in self.nodes(ast.FunctionDef):
             if node.name == "__eq__":

@@ -232,6 +232,29 @@ class OutTests(ErrorTests):
         except TooMany as error:
             self.assertEqual(error.limit, 20000)
 
+    def test_far_beyond_the_limits(self):
+        rows = [(one, two, three) for one in range(32) for two in range(32) for three in range(32)]
+        come = tuple((("u",) if sum(row) & 1 else ("v",)) + row for row in rows)
+        question = Question(make_rule((), ("u", "x", "y", "z"), ("v", "x", "y", "z")))
+        with self.assertRaises(TooMany) as caught:
+            out_paper(question, Database(), Licence(come=come), ())
+        self.assertEqual(caught.exception.limit, 20000)
+        # With 23 integers it is 19683 ways, so it is answered.
+        few = [row for row in come if max(row[1:]) < 23]
+        self.check_word("out", question, Database(), Licence(come=tuple(few)))
+        # So is a rule of one variable.
+        single = Question(make_rule((), ("u", "x"), ("v", "x")))
+        many = Licence(come=tuple(("u", number) for number in range(9000)) + tuple(("v", number) for number in range(9000, 19990)))
+        paper = out_paper(single, Database(), many, ())
+        self.assertEqual(paper[0], "out")
+        self.assertIs(is_out_paper(single, Database(), many, (), paper), True)
+        # 137 integers and two variables.
+        pairs = [(one, other) for one in range(137) for other in range(137)]
+        double = Question(make_rule((), ("u", "x", "y"), ("v", "y", "x")))
+        many = Licence(come=tuple(((("u",) if one < other else ("v",)) + (one, other)) for one, other in pairs if one != other))
+        self.check_word("made", double, Database(), many)
+        self.check_word("out", double.with_rule(make_rule((), ("u", "x", "y"), ("v", "x", "y"))).without_rule(0), Database(), many)
+
     def test_great_integers(self):
         rows = Database(("t", HUGE), ("s", HUGE), ("t", -HUGE))
         self.assertEqual(out_paper(ALONE, rows, GROWING, (HUGE,)), ("out", (("stays", 0),)))
@@ -256,6 +279,8 @@ class OutTests(ErrorTests):
         for function in (out_paper, can_be, status):
             self.check_errors(function, *CASE)
         self.check_errors(statuses, *CASE[:3])
+        # Also where there are no answers to look at.
+        self.check_errors(statuses, CASE[0], (Database(),) + CASE[1][1:], CASE[2])
         for function in (is_out_paper, is_maker):
             self.check_errors(lambda *four: function(*four, None), *CASE)
 

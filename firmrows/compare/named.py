@@ -41,8 +41,9 @@ def copy_of(question, number):
 
 def is_idle(question, number):
     """Return whether an integer does not matter."""
-    copy = copy_for(question, number)
-    return is_within(question, copy) and is_within(copy, question)
+    # To exchange the integer and the fresh one makes each of the two questions the other one.
+    # So if one of them is within the other one, that one is within it, too.
+    return is_within(question, copy_for(question, number))
 
 
 def mattering(question):
@@ -59,8 +60,8 @@ def matter_paper(question, number):
     paper = paper_within(question, copy)
     if paper[0] == APART:
         return (MATTERS, paper[1], paper[2])
-    more = paper_within(copy, question)
-    return (MATTERS, more[1], more[2]) if more[0] == APART else (IDLE, paper[1], more[1])
+    # As in `is_idle`, this one cannot be apart.
+    return (IDLE, paper[1], paper_within(copy, question)[1])
 
 
 def is_matter_paper(question, number, value):

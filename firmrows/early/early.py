@@ -1,7 +1,7 @@
 """Early questions: no answer is ever lost when rows come."""
 
 from firmrows.ask.questions import check_question
-from firmrows.base.databases import Database, check_database
+from firmrows.base.databases import Database
 from firmrows.compare.frozen import freeze
 from firmrows.compare.within import are_trees_for, has_answer, is_answer_in, trees_for
 from firmrows.future.licences import Licence
@@ -49,6 +49,4 @@ def is_early_paper(question, value):
 
 def kept_answers(question, database):
     """Return the ascending tuple of the answers that stay, whatever rows come."""
-    check_question(question)
-    check_database(database)
     return firm_answers(question, database, Licence(come="any"))

@@ -1,10 +1,9 @@
 """Licences: which rows may come, and which may go."""
 
-from firmrows.base.patterns import bound, meeting, plain_form, put_in
+from firmrows.base.patterns import plain_form, put_in
 from firmrows.base.rows import check_pattern, check_row, is_pattern
 from firmrows.errors import InvalidLicence, InvalidOperation
-
-ANY = "any"
+from firmrows.future.parts import ANY, Part
 
 
 class Licence:
@@ -20,6 +19,10 @@ class Licence:
         self._go = ordered(go)
         self._shut = ordered(shut)
         self._kept = ordered(kept)
+        self._coming = Part(self._come)
+        self._going = Part(self._go)
+        self._shutting = Part(self._shut)
+        self._keeping = Part(self._kept)
 
     @property
     def come(self):
@@ -51,12 +54,22 @@ class Licence:
     def may_come(self, row):
         """Return whether the row may come, whatever the database."""
         check_row(row)
-        return is_let(row, self._come, self._shut)
+        return self._coming.has_all(row) and not self._shutting.has_all(row)
 
     def may_go(self, row):
         """Return whether the row may go, whatever the database."""
         check_row(row)
-        return is_let(row, self._go, self._kept)
+        return self._going.has_all(row) and not self._keeping.has_all(row)
+
+    def comings(self, pattern):
+        """Return what the blanks of a pattern become in its rows that may come: a list of dicts.
+
+        A dict tells of blanks that must become integers, or equal, to fit a pattern of `come`. There is none
+        for rows that are all shut. As there are endlessly many integers, that is so only if one pattern of
+        `shut` covers them all.
+        """
+        tables = self._coming.meetings(pattern)
+        return [table for table in tables if not self._shutting.has_all(put_in(pattern, table))]
 
     def sealed(self, *patterns, come=True, go=True):
         """Return the licence under which rows of these patterns may not come, or not go."""
@@ -114,31 +127,6 @@ def listed(part):
 def told(part):
     """Return the word for how many patterns a part of a licence has."""
     return ANY if part == ANY else str(len(part))
-
-
-def is_let(row, let, stopped):
-    """Return whether one part of a licence lets the row change and the other one does not stop it."""
-    return (let == ANY or has_fitting(let, row)) and not has_fitting(stopped, row)
-
-
-def has_fitting(patterns, row):
-    """Return whether the row fits one of the patterns."""
-    for pattern in patterns:
-        if bound(pattern, row) is not None:
-            return True
-    return False
-
-
-def comings(pattern, licence):
-    """Return what the blanks of a pattern become in its rows that may come: a list of dicts.
-
-    A dict tells of blanks that must become integers, or equal, to fit a pattern of `come`. There is none
-    for rows that are all shut. As there are endlessly many integers, that is so only if one pattern of
-    `shut` covers them all.
-    """
-    lets = (pattern,) if licence.come == ANY else licence.come
-    tables = [meeting(pattern, let) for let in lets]
-    return [table for table in tables if table is not None and not has_fitting(licence.shut, put_in(pattern, table))]
 
 
 def check_licence(licence):

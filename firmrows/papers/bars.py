@@ -5,9 +5,8 @@ from firmrows.ask.rules import variables_in
 from firmrows.base.patterns import bound, is_filling, put_in, put_in_terms
 from firmrows.base.rows import is_integer, is_name, is_term
 from firmrows.errors import InvalidOperation
-from firmrows.future.licences import comings
 from firmrows.papers.checks import check_case
-from firmrows.papers.equal import equated, has_equal, parted, put_in_pairs, start_of
+from firmrows.papers.equal import has_equal, makes_equal, start_of, states_below
 
 IS = "is"
 PAIR = "pair"
@@ -64,17 +63,20 @@ def is_bars(value):
     return len(level) == 0
 
 
-def names_used(tree):
-    """Return the dict whose keys are the variables and the other names in a bar tree."""
-    found = {}
+def names_and_reasons(tree):
+    """Return two dicts: the keys of one are all names in a bar tree, those of the other one are its leaves."""
+    names = {}
+    reasons = {}
     level = [tree]
     while len(level) > 0:
         for node in level:
             if is_inner(node):
-                found[node[1]] = True
-                found.update({term: True for term, _ in node[2] if isinstance(term, str)})
+                names[node[1]] = True
+                names.update({term: True for term, _ in node[2] if isinstance(term, str)})
+            else:
+                reasons[node] = True
         level = below(level)
-    return found
+    return (names, reasons)
 
 
 def next_node(node, numbers):
@@ -90,7 +92,8 @@ def reason_at(tree, numbers):
     """Return the leaf to which the integers of a dict go down."""
     if not is_bars(tree):
         raise InvalidOperation("not a bar tree of a depth of at most 20")
-    if not is_filling(numbers, list(names_used(tree))):
+    names, _ = names_and_reasons(tree)
+    if not is_filling(numbers, list(names)):
         raise InvalidOperation("not a dict from names to integers that has all names in the tree")
     node = tree
     while is_inner(node):
@@ -113,8 +116,8 @@ class BarCheck:
     def escapes(self, pattern, unlike):
         """Return what blanks can become so that the row of a pattern is there or may come: a list of dicts."""
         found = [bound(pattern, row) for row in self._database.rows]
-        tables = [table for table in found if table is not None] + comings(pattern, self._licence)
-        return [table for table in tables if not has_equal(put_in_pairs(unlike, table))]
+        tables = [table for table in found if table is not None] + self._licence.comings(pattern)
+        return [table for table in tables if not makes_equal(table, unlike)]
 
     def has_indices(self, reason):
         """Return whether the pair or the patterns that a leaf tells of exist."""
@@ -145,15 +148,18 @@ class BarCheck:
         return False
 
     def is_right(self, node, state):
-        """Return whether all leaves below a node are right."""
+        """Return whether all leaves below a node are right, if their indices exist."""
+        if state is None:
+            return True
         if not is_inner(node):
-            return self.has_indices(node) and (state is None or self.holds(node, state))
+            return self.holds(node, state)
         _, variable, cases, other = node
-        for term, tree in cases:
-            if not self.is_right(tree, equated(state, variable, term)):
+        states = states_below(state, variable, [term for term, _ in cases])
+        trees = [tree for _, tree in cases] + [other]
+        for k in range(len(trees)):
+            if not self.is_right(trees[k], states[k]):
                 return False
-            state = parted(state, variable, term)
-        return self.is_right(other, state)
+        return True
 
 
 def is_bar_tree_of(rule, database, licence, answer, value):
@@ -161,9 +167,11 @@ def is_bar_tree_of(rule, database, licence, answer, value):
     if not is_bars(value):
         return False
     variables = variables_in(rule)
-    if not all([name in variables for name in names_used(value)]):
+    names, reasons = names_and_reasons(value)
+    check = BarCheck(rule, database, licence)
+    if not all([name in variables for name in names]) or not all([check.has_indices(reason) for reason in reasons]):
         return False
-    return BarCheck(rule, database, licence).is_right(value, start_of(rule, answer))
+    return check.is_right(value, start_of(rule, answer))
 
 
 def is_bar_tree(question, database, licence, answer, index, value):

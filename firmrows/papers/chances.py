@@ -4,7 +4,6 @@ from firmrows.ask.rules import names_among, put_in_rule
 from firmrows.base.patterns import bound, bound_terms, put_in
 from firmrows.errors import TooMany
 from firmrows.future.futures import is_changeable
-from firmrows.future.licences import comings
 from firmrows.papers.ways import Ways, parts_of_rule
 
 
@@ -23,7 +22,7 @@ class Chances(Ways):
         """Return 0, or None if no row of a wanted pattern is there or may come."""
         if pattern not in self._possible:
             there = len([row for row in self._database.rows if bound(pattern, row) is not None]) > 0
-            self._possible[pattern] = there or len(comings(pattern, self._licence)) > 0
+            self._possible[pattern] = there or len(self._licence.comings(pattern)) > 0
         return 0 if self._possible[pattern] else None
 
     def barred_bits(self, pattern):
@@ -42,7 +41,7 @@ class Chances(Ways):
         """Return the list of the integers that a variable of a wanted pattern can be."""
         if (pattern, name) not in self._chosen:
             found = [bound(pattern, row) for row in self._database.rows]
-            tables = [table for table in found if table is not None] + comings(pattern, self._licence)
+            tables = [table for table in found if table is not None] + self._licence.comings(pattern)
             self._chosen[(pattern, name)] = self.numbers_for(tables, name)
         return self._chosen[(pattern, name)]
 
@@ -50,7 +49,7 @@ class Chances(Ways):
         """Return the list of the integers that a variable of a row that can change can be."""
         rows = [row for row in self._database.rows if self._licence.may_go(row)]
         found = [bound(pattern, row) for row in rows]
-        tables = [table for table in found if table is not None] + comings(pattern, self._licence)
+        tables = [table for table in found if table is not None] + self._licence.comings(pattern)
         return self.numbers_for(tables, name)
 
     def add_open(self, pattern, parts, limit, opened):

@@ -10,12 +10,15 @@ from firmrows.future.futures import is_future
 from firmrows.future.licences import check_licence
 from firmrows.papers.bars import BOTH, IS, NEVER, NONE, PAIR, STAYS, BarCheck, is_bar_tree_of
 from firmrows.papers.checks import check_case
-from firmrows.papers.equal import equated, parted, start_of
+from firmrows.papers.equal import start_of, states_below
 from firmrows.papers.firm import is_firm
 
 OUT = "out"
 MADE = "made"
 MAX_WAYS = 20000
+# How much is looked at before TooMany, where it is permitted: a node counts, and so do the rows and ways out.
+MAX_WORK = 1000000
+WORK_OF_NODE = 100
 
 
 def reasons_of(rule):
@@ -59,7 +62,7 @@ class OutSearch:
         self._database = database
         self._licence = licence
         self._answer = answer
-        self._nodes = 0
+        self._work = 0
         known = database.numbers + licence.numbers + question.named + answer
         self._known = {number: True for number in known}
         self._may_stop = False
@@ -95,15 +98,19 @@ class OutSearch:
     def escapes(self, rule, check, state, blocked):
         """Return a dict from the indices of blocked rows to the ways in which others can be there or come."""
         table, unlike = state
-        return {i: check.escapes(put_in(rule[1][i], table), unlike) for i in blocked}
+        found = {}
+        for i in blocked:
+            found[i] = check.escapes(put_in(rule[1][i], table), unlike)
+            self._work = self._work + len(self._database) + len(found[i])
+        return found
 
     def search(self, rule, check, state, last):
         """Return a pair: a right bar tree or None, and otherwise a future with the answer.
 
         To go on with the last blocked row keeps the tree low: only few variables stand in it.
         """
-        self._nodes = self._nodes + 1
-        if self._may_stop and self._nodes > MAX_WAYS:
+        self._work = self._work + WORK_OF_NODE
+        if self._may_stop and self._work > MAX_WORK:
             raise TooMany(MAX_WAYS)
         if state is None:
             return ((NONE,), None)
@@ -125,14 +132,14 @@ class OutSearch:
     def asked_about(self, rule, check, state, first, ways):
         """Return what `search` returns, for a state with ways in which a blocked row can be there or come."""
         name, terms = terms_to_ask(ways)
+        states = states_below(state, name, terms)
         cases = []
-        for term in terms:
-            tree, maker = self.search(rule, check, equated(state, name, term), None)
+        for k in range(len(terms)):
+            tree, maker = self.search(rule, check, states[k], None)
             if tree is None:
                 return (None, maker)
-            cases.append((term, tree))
-            state = parted(state, name, term)
-        other, maker = self.search(rule, check, state, first)
+            cases.append((terms[k], tree))
+        other, maker = self.search(rule, check, states[len(terms)], first)
         return (None, maker) if other is None else ((IS, name, tuple(cases), other), None)
 
     def search_rule(self, rule):

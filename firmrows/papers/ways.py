@@ -38,11 +38,6 @@ def names_of_part(kind, part):
     return names_among(terms)
 
 
-def names_of(parts):
-    """Return the ascending tuple of all variables in the parts."""
-    return names_among([name for kind in range(3) for part in parts[kind] for name in names_of_part(kind, part)])
-
-
 def different(values):
     """Return the tuple of the different ones of some values, in their order."""
     return tuple(list({value: True for value in values}))
@@ -144,11 +139,16 @@ class Ways:
         return every
 
     def tried_first(self, parts):
-        """Return a variable with the fewest choices, and its choices."""
+        """Return a variable with the fewest choices, and its choices.
+
+        Of several ones it is a variable that stands in most parts, which fails soonest.
+        """
+        names = [name for kind in range(3) for part in parts[kind] for name in names_of_part(kind, part)]
         best = None
         for pattern in parts[0]:
             for name in names_of_part(0, pattern):
                 numbers = self.choices(pattern, name)
-                if best is None or len(numbers) < len(best[1]):
-                    best = (name, numbers)
-        return best
+                rank = (len(numbers), -names.count(name))
+                if best is None or rank < best[0]:
+                    best = (rank, name, numbers)
+        return best[1:]
