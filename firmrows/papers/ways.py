@@ -11,7 +11,7 @@ from firmrows.base.patterns import put_in, put_in_terms
 def parts_of_rule(rule):
     """Return the parts of a rule; its clauses are the pairs, and that no barred row is a wanted one.
 
-    Other than in other parts, there need not be variables in them.
+    Here, and only here, there need not be a variable in each of them.
     """
     _, wanted, barred, unlike = rule
     pairs = [(pair,) for pair in unlike]
@@ -103,7 +103,7 @@ class Ways:
     def found(self, parts):
         """Return a dict from the yields of the parts to dicts, of integers that have the yield.
 
-        If nothing can be yielded with integers that are permitted, no other yield is told.
+        If some integers yield (0, 0), it is told alone: what comes with more rows holds then anyway.
         """
         if parts not in self._worked:
             self._worked[parts] = self.worked_out(parts)
