@@ -199,3 +199,84 @@ def some_variation(random, question):
                 (head, wanted + (some_pattern(random, blanks + (0, 1)),), barred, unlike)))
             rules = [rule for rule in rules if is_rule(rule)]
     return Question(*rules, width=question.width)
+
+
+SHAPE_NUMBERS = (-10 ** 39, -3, -1, 0, 1, 2, 3, 4, 7, 10 ** 39)
+SHAPE_TABLES = (("a", 0), ("t", 1), ("s", 1), ("t", 2), ("r", 2), ("r", 2), ("u", 3))
+
+
+def shape_row(random, numbers):
+    name, many = random.choice(SHAPE_TABLES)
+    return (name,) + tuple(random.choice(numbers) for _ in range(many))
+
+
+def some_shape(random, numbers, most=5, width=None):
+    """A shape over some integers, whose head may have integers that stand in no row."""
+    width = random.choice((0, 0, 1, 1, 2, 3)) if width is None else width
+    rows = {shape_row(random, numbers) for _ in range(random.randrange(most + 1))}
+    return (tuple(random.choice(numbers) for _ in range(width)), tuple(sorted(rows)))
+
+
+def some_fixed(random, numbers):
+    return tuple(sorted(random.sample(numbers, random.choice((0, 0, 1, 2)))))
+
+
+def inner_shape(random, width, fixed, most=3, free=3):
+    """A shape whose head has only fixed integers and those of its rows."""
+    while True:
+        numbers = list(fixed) + [number for number in range(10) if number not in fixed][:free]
+        head, rows = some_shape(random, numbers, most, width)
+        inner = {number for row in rows for number in row[1:]} | set(fixed)
+        if set(head) <= inner:
+            return (head, rows)
+
+
+def early_question(random, width):
+    """A question that often is early."""
+    from firmrows.early.early import is_early
+    while True:
+        question = some_small_question(random, width)
+        if random.random() < 0.3:
+            question = Question(*[rule[:2] + ((),) + rule[3:] for rule in question.rules], width=width)
+        if is_early(question):
+            return question
+
+
+LIVELY = tuple(Question(*rules) for rules in (
+    [(("x",), (("t", "x"),), (("s", "x"),), ())],
+    [(("x",), (("t", "x"),), (("s", "x"),), ()), (("x",), (("t", "x"), ("s", "x")), (), ())],
+    [((), (), (("a",),), ()), ((), (), (("b",),), ())],
+    [(("x", "y"), (("r", "x", "y"),), (("r", "y", "x"),), (("x", "y"),))],
+    [(("x",), (("r", "x", "y"),), (("s", "y"),), ()), (("x",), (("r", "x", "y"), ("t", "y")), (), ())],
+    [(("x",), (("r", "x", "y"), ("r", "y", "x")), (), (("x", "y"),)), ((0,), (), (("t", 0),), ())],
+    [((1,), (("t", 1),), (), ()), ((1,), (("a",),), (("t", 1), ("s", 1)), ())],
+    [((), (("t", "x"), ("t", "y")), (), (("x", "y"),)), ((), (("t", "x"),), (("s", "x"),), ())],
+))
+
+
+def lively_question(random):
+    """A question that has some answers in databases of a few rows."""
+    return random.choice(LIVELY) if random.random() < 0.7 else split_question(random, random.randrange(2))
+
+
+def asked_row(random, question, most=2):
+    """A row of a table that the question asks for."""
+    tables = sorted({(pattern[0], len(pattern) - 1) for rule in question.rules for pattern in rule[1] + rule[2]}) or [("a", 0)]
+    name, many = random.choice(tables)
+    return (name,) + tuple(random.randrange(most) for _ in range(many))
+
+
+def asked_pattern(random, question):
+    """A pattern of a table that the question asks for."""
+    row = asked_row(random, question)
+    return row[:1] + tuple(random.choice((term, "x", "y")) for term in row[1:])
+
+
+def asked_licence(random, question):
+    def part(most):
+        return tuple(asked_pattern(random, question) for _ in range(random.randrange(most)))
+    return Licence(come=random.choice(("any", "any", part(4))), go=random.choice(("any", (), part(3))), shut=part(2), kept=part(2))
+
+
+def asked_database(random, question, many):
+    return Database(*[asked_row(random, question) for _ in range(random.randrange(many + 1))])

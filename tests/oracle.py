@@ -1,6 +1,6 @@
 """What the document says, tried out in the plainest way, without the package's own functions."""
 
-from itertools import chain, combinations, product
+from itertools import chain, combinations, permutations, product
 
 
 def blanks(pattern):
@@ -284,3 +284,66 @@ def small_databases(tables, integers, most):
     """All sets of at most so many rows over some tables and integers."""
     rows = all_rows(tables, integers)
     return [frozenset(some) for many in range(most + 1) for some in combinations(rows, many)]
+
+
+# Shapes, tried with all ways to take integers to integers.
+
+def numbers_of(shape):
+    head, rows = shape
+    return sorted(set(head) | {number for row in rows for number in row[1:]})
+
+
+def image(shape, table):
+    head, rows = shape
+    return (tuple(table[number] for number in head), tuple(sorted((row[0],) + tuple(table[part] for part in row[1:]) for row in rows)))
+
+
+def findings(shape, rows, wanted_answer, fixed):
+    rows = set(rows)
+    names = numbers_of(shape)
+    values = sorted({number for row in rows for number in row[1:]} | set(wanted_answer))
+    found = []
+    for chosen in permutations(values, len(names)):
+        table = dict(zip(names, chosen))
+        if all(table[name] == name if name in fixed else table[name] not in fixed for name in names):
+            head, taken = image(shape, table)
+            if head == wanted_answer and set(taken) <= rows:
+                found.append(table)
+    return found
+
+
+def is_found_in(shape, other, fixed):
+    return len(shape[0]) == len(other[0]) and bool(findings(shape, other[1], other[0], fixed))
+
+
+def normal_form(shape, fixed):
+    free = [number for number in numbers_of(shape) if number not in fixed]
+    new = [number for number in range(len(free) + len(fixed)) if number not in fixed][:len(free)]
+    return min(image(shape, {**{number: number for number in fixed}, **dict(zip(free, chosen))}) for chosen in permutations(new))
+
+
+def found_answers(shapes, rows, fixed):
+    values = sorted({number for row in rows for number in row[1:]} | set(fixed))
+    return tuple(sorted({answer for shape in shapes for answer in product(values, repeat=len(shape[0]))
+                         if findings(shape, rows, answer, fixed)}))
+
+
+# Frozen pairs, tried with all ways to give integers to variables and blanks.
+
+def frozen_pairs(rules, pattern, named):
+    numbers = sorted(set(integers_of(rules, ())) | set(named) | {term for term in pattern[1:] if not isinstance(term, str)})
+    new = [number for number in range(len(numbers) + 7) if number not in numbers][:7]
+    found = set()
+    for rule in rules:
+        names, inner = variables(rule), blanks(pattern)
+        few = new[:len(names) + len(inner)]
+        for values in product(numbers + few, repeat=len(names) + len(inner)):
+            firsts = [value for at, value in enumerate(values) if value in few and value not in values[:at]]
+            table = dict(zip(names, values))
+            wanted = {put(part, table) for part in rule[1]}
+            barred = {put(part, table) for part in rule[2]}
+            if firsts == few[:len(firsts)] and not wanted & barred and all(
+                    value_of(one, table) != value_of(other, table) for one, other in rule[3]):
+                row = put(pattern, dict(zip(inner, values[len(names):])))
+                found.add((answer(rule, table), tuple(sorted(wanted)), tuple(sorted(barred)), row))
+    return tuple(sorted(found))

@@ -15,11 +15,19 @@ from firmrows.compare.frozen import frozen_rules
 from firmrows.compare.needless import parts_of
 from firmrows.compare.within import within_paper
 from firmrows.early.early import early_paper
+from firmrows.early.least import least_set
+from firmrows.early.shapes import findings
 from firmrows.errors import InvalidAnswer, InvalidDatabase, InvalidLicence, InvalidNumber, InvalidQuestion
 from firmrows.future.licences import Licence
+from firmrows.live.caches import Cache
+from firmrows.live.edits import edit_paper, frozen_pairs, gain_paper, loss_paper
+from firmrows.live.engines import Engine
+from firmrows.live.networks import Network, trap
+from firmrows.live.stores import Store
 from firmrows.papers.counts import share
 from firmrows.papers.firm import firm_paper
 from firmrows.papers.out import out_paper, statuses
+from firmrows.text.shell import Shell
 
 EITHER = Question(make_rule((), barred=(("a",),)), make_rule((), barred=(("b",),)))
 ALONE = Question(make_rule(("x",), ("t", "x"), barred=(("s", "x"),)))
@@ -53,6 +61,9 @@ TUPLES = [
     (("r", 1),), (("r", "x"), ("r", 1)), (("r", True),), ("any", "any"), (("r", 1), 1), (("r", 1), None),
     ("ask", ("r", 1), ("match", 0, ()), ("match", 0, ())), ("match", 0, (1,)), ("match", True, ()),
     ((), (), (), ()), (("x",), (("t", "x"),), (), ()), (("x",), (), (), ()), ((), (), ()), [(), (), (), ()],
+    ((), ()), ((1,), ()), ((1,), (("t", 1), ("t", 2))), ((1,), (("t", 2), ("t", 1))), ((True,), ()), ((), (("t", True),)),
+    (((), ()), ((), ())), (((), ()), ((1,), (("t", 1),))), ("put", ("r", 1)), ("take", ("r", "x")), ("put", ("r", True)),
+    ("put", None), ("take",), ("put", ("r",), 1), ["put", ("r", 1)], ("kept", ()), ("lost", None), ("no loss", ()),
 ]
 
 OTHERS = [
@@ -72,7 +83,10 @@ def package_values():
         ("r", ROWS), {"x": ROWS}, {1: ALONE}, (GROWING, 1), firm_paper(SPLIT, ROWS, GROWING, (1,)),
         firm_paper(ALONE, ROWS, GROWING, (1,)), out_paper(ALONE, ROWS, GROWING, (2,)), out_paper(ALONE, ROWS, GROWING, (3,)),
         statuses(SPLIT, ROWS, GROWING), share(SPLIT, ROWS, GROWING, (1,)), frozen_rules(ALONE), within_paper(SPLIT, ALONE),
-        parts_of(ALONE), early_paper(SPLIT), early_paper(ALONE),
+        parts_of(ALONE), early_paper(SPLIT), early_paper(ALONE), least_set(SPLIT), findings(((5,), (("t", 5),)), ROWS, (2,)),
+        frozen_pairs(ALONE, ("s", "x")), loss_paper(SPLIT, ("s", "x")), gain_paper(SPLIT, ("s", "x")), loss_paper(ALONE, ("s", "x")),
+        edit_paper(ALONE, ("put", ("s", 2)), (1,)), edit_paper(ALONE, ("put", ("s", 1)), (1,)), Cache(ALONE), Engine(ALONE, GROWING),
+        Network(ALONE, {"a": ROWS}), trap(early_paper(ALONE), ALONE), Store(), Shell(),
     ]
 
 
@@ -109,6 +123,30 @@ def looks_like_exchange(value):
 
 def looks_like_integers(value):
     return type(value) is tuple and all(is_plain_integer(part) for part in value)
+
+
+def looks_ascending(values):
+    return all(one < other for one, other in zip(values, values[1:]))
+
+
+def looks_like_shape(value):
+    return (type(value) is tuple and len(value) == 2 and looks_like_integers(value[0]) and len(value[0]) < 4
+            and type(value[1]) is tuple and len(value[1]) < 13 and all(looks_like_row(row) for row in value[1])
+            and looks_ascending(value[1]))
+
+
+def looks_like_fixed(value):
+    return looks_like_integers(value) and looks_ascending(value)
+
+
+def looks_like_shapes(value):
+    return (type(value) is tuple and all(looks_like_shape(shape) for shape in value)
+            and len({len(shape[0]) for shape in value}) < 2)
+
+
+def looks_like_edit(value):
+    return (type(value) is tuple and len(value) == 2 and type(value[0]) is str and value[0] in ("put", "take")
+            and looks_like_pattern(value[1]))
 
 
 def wrong_for(is_right):

@@ -7,13 +7,15 @@ import unittest
 from firmrows.ask import matches, questions
 from firmrows.base import databases, patterns, rows
 from firmrows.compare import frozen, named, needless, within
-from firmrows.early import early
+from firmrows.early import early, least, shapes
 from firmrows.future import futures, licences
+from firmrows.live import caches, edits, engines, networks, stores
 from firmrows.papers import bars, counts, firm, out, trees
+from firmrows.text import formats, shell
 
 MODULES = (
     rows, patterns, databases, questions, matches, licences, futures, trees, firm, bars, out, counts, frozen, within,
-    needless, named, early,
+    needless, named, early, shapes, least, edits, caches, engines, networks, stores, formats, shell,
 )
 
 
@@ -26,7 +28,7 @@ class ExampleTests(unittest.TestCase):
         with open(place, encoding="utf-8") as file:
             text = file.read()
         test = doctest.DocTestParser().get_doctest(text, names, "examples", place, 0)
-        self.assertEqual(len(test.examples), 32)
+        self.assertEqual(len(test.examples), 50)
         told = []
         result = doctest.DocTestRunner(verbose=False).run(test, out=told.append)
         self.assertEqual(result.failed, 0, "".join(told))

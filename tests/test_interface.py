@@ -62,6 +62,25 @@ FUNCTIONS = {
         "early_paper(question)", "is_early_paper(question, value)", "is_early(question)",
         "kept_answers(question, database)",
     ),
+    "firmrows.early.shapes": (
+        "is_shape(value)", "findings(shape, database, answer, *, fixed=())",
+        "is_finding(shape, database, answer, value, *, fixed=())", "is_found_in(shape, other, *, fixed=())",
+        "are_alike(shape, other, *, fixed=())", "symmetries(shape, *, fixed=())", "normal_form(shape, *, fixed=())",
+        "found_answers(shapes, database, *, fixed=())",
+    ),
+    "firmrows.early.least": (
+        "least_set(question)", "reduced(shapes, *, fixed=())", "set_or(shapes, others, *, fixed=())",
+        "set_and(shapes, others, *, fixed=())", "is_set_within(shapes, others, *, fixed=())",
+        "question_of(shapes, *, fixed=(), width=None)",
+    ),
+    "firmrows.live.edits": (
+        "frozen_pairs(question, pattern)", "loss_paper(question, pattern)", "is_loss_paper(question, pattern, value)",
+        "gain_paper(question, pattern)", "is_gain_paper(question, pattern, value)", "effects(question, edit)",
+        "is_deaf(question, pattern)", "edit_paper(question, edit, answer)", "is_edit_paper(question, edit, answer, value)",
+    ),
+    "firmrows.live.networks": ("trap(paper, way)",),
+    "firmrows.text.formats": tuple(f"format_{word}({word})" for word in ("row", "rule", "question", "database", "licence", "shape"))
+    + tuple(f"parse_{word}(text)" for word in ("row", "rule", "question", "database", "licence", "shape")),
 }
 CLASSES = {
     ("firmrows.base.databases", "Database"): (
@@ -80,6 +99,28 @@ CLASSES = {
         ("may_come(row)", "may_go(row)", "sealed(*patterns, come=True, go=True)"),
         ("__init__", "__eq__", "__str__"),
     ),
+    ("firmrows.live.caches", "Cache"): (
+        ("question", "answers", "is_whole"), ("fill(database)", "add(*answers)", "tell(edit)"),
+        ("__init__", "__len__", "__contains__", "__eq__", "__str__"),
+    ),
+    ("firmrows.live.engines", "Engine"): (
+        ("question", "licence", "database", "shown", "log"),
+        ("put(row)", "take(row)", "seal(*patterns, come=True, go=True)", "status(answer)", "since(answer)", "back(*, many=1)",
+         "after(*moves)"),
+        ("__init__", "__len__", "__eq__", "__str__"),
+    ),
+    ("firmrows.live.networks", "Network"): (
+        ("names", "whole", "shown", "waiting"), ("at(name)", "shown_by(name)", "bring(name, *rows)", "finish()", "twin()"),
+        ("__init__", "__len__", "__eq__", "__str__"),
+    ),
+    ("firmrows.live.stores", "Store"): (
+        ("bases", "questions", "log"),
+        ("apply(*changes)", "apply_all(changes)", "undo(*, many=1)", "redo(*, many=1)", "during(changes, call)", "database_at(name)",
+         "licence_at(name)", "question_at(name)", "answers_at(base, name)", "firm_at(base, name)", "papers_at(base, name, answer)",
+         "twin()"),
+        ("__init__", "__len__", "__eq__", "__str__"),
+    ),
+    ("firmrows.text.shell", "Shell"): ((), ("do(line)", "do_all(text)", "store()"), ("__init__",)),
 }
 
 
@@ -116,9 +157,18 @@ class InterfaceTests(unittest.TestCase):
         from firmrows.ask.questions import Question
         from firmrows.base.databases import Database
         from firmrows.future.licences import Licence
+        from firmrows.live.caches import Cache
+        from firmrows.live.engines import Engine
+        from firmrows.live.networks import Network
+        from firmrows.live.stores import Store
+        from firmrows.text.shell import Shell
         self.assertEqual(str(inspect.signature(Database)), "(*rows)")
         self.assertEqual(str(inspect.signature(Question)), "(*rules, width=None)")
         self.assertEqual(str(inspect.signature(Licence)), "(*, come=(), go=(), shut=(), kept=())")
+        self.assertEqual(str(inspect.signature(Cache)), "(question)")
+        self.assertEqual(str(inspect.signature(Engine)), "(question, licence, *, database=None)")
+        self.assertEqual(str(inspect.signature(Network)), "(way, parts)")
+        self.assertEqual([str(inspect.signature(Store)), str(inspect.signature(Shell))], ["()", "()"])
 
 
 if __name__ == "__main__":

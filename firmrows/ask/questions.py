@@ -146,10 +146,15 @@ def check_rules(rules):
         raise InvalidQuestion("heads of different lengths")
 
 
-def width_of(rules, width):
-    """Return the width of a question with these rules that was made with this `width`."""
+def check_width(width):
+    """Raise InvalidNumber if the value is neither None nor the length that a head can have."""
     if width is not None and (not is_integer(width) or not 0 <= width <= MAX_TERMS):
         raise InvalidNumber(width)
+
+
+def width_of(rules, width):
+    """Return the width of a question with these rules that was made with this `width`."""
+    check_width(width)
     if len(rules) == 0:
         return 0 if width is None else width
     length = len(rules[0][0])

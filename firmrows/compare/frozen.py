@@ -25,6 +25,13 @@ def is_clear(rule):
     return not has_equal(unlike) and len([pattern for pattern in barred if pattern in wanted]) == 0
 
 
+def choices_after(numbers, table):
+    """Return the tuple of what the next variable can be given, if a dict tells what was given before."""
+    known = {number: True for number in numbers}
+    given = {table[name]: True for name in table if table[name] not in known}
+    return numbers + new_numbers(numbers, len(given) + 1)
+
+
 def givings(rule, names, numbers, table):
     """Yield the dicts that give integers to all of the names and freeze the rule, beginning with this dict.
 
@@ -36,11 +43,8 @@ def givings(rule, names, numbers, table):
     if len(table) == len(names):
         yield table
         return
-    known = {number: True for number in numbers}
-    given = {table[name]: True for name in table if table[name] not in known}
-    choices = numbers + new_numbers(numbers, len(given) + 1)
     name = names[len(table)]
-    for number in choices:
+    for number in choices_after(numbers, table):
         more = {**table, name: number}
         yield from givings(rule, names, numbers, more)
 
@@ -65,8 +69,12 @@ def freeze(rules, numbers):
     return tuple(sorted(list(found)))
 
 
-def freeze_at_most(rules, numbers, most):
-    """Return the ascending tuple of the different frozen rules, or None if there are more than so many."""
+def freeze_for(rules, numbers, trees):
+    """Return the ascending tuple of the different frozen rules, or None if there are more than trees.
+
+    So papers that are too short are refused soon. What is not a tuple of trees is shorter than all.
+    """
+    most = len(trees) if isinstance(trees, tuple) else -1
     found = {}
     for rule in rules:
         names = variables_in(rule)

@@ -4,11 +4,9 @@ from firmrows.ask.matches import first_match
 from firmrows.ask.questions import check_question
 from firmrows.base.databases import Database
 from firmrows.base.rows import is_integers
-from firmrows.compare.frozen import freeze, freeze_at_most, joint
+from firmrows.compare.cases import are_trees_for, trees_for
+from firmrows.compare.frozen import freeze, freeze_for, joint
 from firmrows.errors import InvalidOperation
-from firmrows.future.licences import Licence
-from firmrows.papers.cases import case_search
-from firmrows.papers.trees import is_right_tree
 
 WITHIN = "within"
 APART = "apart"
@@ -24,42 +22,6 @@ def check_both(question, other):
         raise InvalidOperation("the widths of the questions differ")
 
 
-def case_of(frozen, growing):
-    """Return the database, the licence and the answer for which a frozen rule has its case tree.
-
-    If growing is true, all rows may come, also those that are barred.
-    """
-    head, rows, away = frozen
-    shut = () if growing else away
-    return (Database.of(rows), Licence(come="any", shut=shut), head)
-
-
-def trees_for(frozen, question, growing):
-    """Return a triple: the case trees for frozen rules, or None, a frozen rule, and a spoiler for it."""
-    trees = []
-    for one in frozen:
-        base, licence, head = case_of(one, growing)
-        tree, spoiler = case_search(question, base, licence, head)
-        if tree is None:
-            return (None, one, spoiler)
-        trees.append(tree)
-    return (tuple(trees), None, None)
-
-
-def are_trees_for(rules, numbers, question, growing, value):
-    """Return whether the value is a tuple of right case trees for the frozen rules of some rules."""
-    if not isinstance(value, tuple):
-        return False
-    frozen = freeze_at_most(rules, numbers, len(value))
-    if frozen is None or len(frozen) != len(value):
-        return False
-    for one, tree in zip(frozen, value):
-        base, licence, head = case_of(one, growing)
-        if not is_right_tree(question, base, licence, head, tree):
-            return False
-    return True
-
-
 def has_answer(question, base, answer):
     """Return whether the question has the answer in the database."""
     return first_match(question, base, answer) is not None
@@ -73,7 +35,7 @@ def is_answer_in(question, base, answer):
 def paper_within(question, other):
     """Return what `within_paper` returns, for arguments that are checked."""
     frozen = freeze(question.rules, joint(question.named, other.named))
-    trees, lost, spoiler = trees_for(frozen, other, False)
+    trees, lost, spoiler = trees_for(other, frozen)
     return (APART, spoiler, lost[0]) if trees is None else (WITHIN, trees)
 
 
@@ -82,7 +44,7 @@ def are_within(rules, numbers, other):
 
     The numbers are at least all the integers that are named by the rules and the question.
     """
-    return trees_for(freeze(rules, numbers), other, False)[0] is not None
+    return trees_for(other, freeze(rules, numbers))[0] is not None
 
 
 def is_within(question, other):
@@ -103,7 +65,8 @@ def is_paper_within(question, other, value):
     if not isinstance(value, tuple) or len(value) == 0:
         return False
     if len(value) == 2 and value[0] == WITHIN:
-        return are_trees_for(question.rules, joint(question.named, other.named), other, False, value[1])
+        frozen = freeze_for(question.rules, joint(question.named, other.named), value[1])
+        return are_trees_for(other, frozen, value[1])
     if len(value) != 3 or value[0] != APART:
         return False
     _, base, answer = value

@@ -2,8 +2,9 @@
 
 from firmrows.ask.questions import check_question
 from firmrows.base.databases import Database
-from firmrows.compare.frozen import freeze
-from firmrows.compare.within import are_trees_for, has_answer, is_answer_in, trees_for
+from firmrows.compare.cases import are_trees_for, trees_for
+from firmrows.compare.frozen import freeze, freeze_for
+from firmrows.compare.within import has_answer, is_answer_in
 from firmrows.future.licences import Licence
 from firmrows.papers.firm import firm_answers
 
@@ -11,13 +12,23 @@ EARLY = "early"
 LATE = "late"
 
 
-def paper_of(question):
-    """Return what `early_paper` returns, for a question that is checked."""
-    trees, lost, spoiler = trees_for(freeze(question.rules, question.named), question, True)
+def cases_of(frozen):
+    """Return the list of the cases of frozen rules, if all rows may come."""
+    return [(head, rows, ()) for head, rows, _ in frozen]
+
+
+def paper_for(frozen, question):
+    """Return what `early_paper` returns, for a question with these frozen rules."""
+    trees, lost, spoiler = trees_for(question, cases_of(frozen))
     if trees is not None:
         return (EARLY, trees)
     head, rows, _ = lost
     return (LATE, Database.of(rows), spoiler, head)
+
+
+def paper_of(question):
+    """Return what `early_paper` returns, for a question that is checked."""
+    return paper_for(freeze(question.rules, question.named), question)
 
 
 def early_paper(question):
@@ -38,7 +49,8 @@ def is_early_paper(question, value):
     if not isinstance(value, tuple) or len(value) == 0:
         return False
     if len(value) == 2 and value[0] == EARLY:
-        return are_trees_for(question.rules, question.named, question, True, value[1])
+        frozen = freeze_for(question.rules, question.named, value[1])
+        return frozen is not None and are_trees_for(question, cases_of(frozen), value[1])
     if len(value) != 4 or value[0] != LATE:
         return False
     _, small, great, answer = value
