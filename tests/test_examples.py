@@ -33,6 +33,16 @@ class ExampleTests(unittest.TestCase):
         result = doctest.DocTestRunner(verbose=False).run(test, out=told.append)
         self.assertEqual(result.failed, 0, "".join(told))
 
+    def test_readme(self):
+        place = os.path.join(os.path.dirname(os.path.dirname(os.path.abspath(__file__))), "README.md")
+        with open(place, encoding="utf-8") as file:
+            text = file.read().replace("```", "")
+        test = doctest.DocTestParser().get_doctest(text, {}, "README", place, 0)
+        self.assertGreater(len(test.examples), 40)
+        told = []
+        result = doctest.DocTestRunner(verbose=False).run(test, out=told.append)
+        self.assertEqual(result.failed, 0, "".join(told))
+
 
 if __name__ == "__main__":
     unittest.main()

@@ -178,17 +178,61 @@ class LanguageTests(unittest.TestCase):
                             plain = isinstance(value, (ast.Name, ast.Attribute, ast.Constant)) or ast.unparse(value) == "{}"
                             self.assertTrue(plain or isinstance(value, ast.Call) and ast.unparse(value.func) == "len")
 
+    def test_generators_have_names_of_their_own(self):
+        names = [node.name for _, node in self.nodes(ast.FunctionDef)]
+        for _, node in self.nodes(ast.FunctionDef):
+            if any(isinstance(part, (ast.Yield, ast.YieldFrom)) for part in ast.walk(node)):
+                self.assertEqual(names.count(node.name), 1, node.name)
+                self.assertNotIn(node.name, METHODS)
+
+    def test_lists_and_dicts_of_modules_are_only_read(self):
+        for path, tree in self.trees.items():
+            held = {target.id for node in tree.body if isinstance(node, ast.Assign) and isinstance(node.value, (ast.Dict, ast.List))
+                    for target in node.targets}
+            parents = {child: node for node in ast.walk(tree) for child in ast.iter_child_nodes(node)}
+            for node in ast.walk(tree):
+                if isinstance(node, ast.Name) and node.id in held and isinstance(node.ctx, ast.Load):
+                    above = parents[node]
+                    with self.subTest(file=path, line=node.lineno):
+                        copied = isinstance(above, ast.Call) and ast.unparse(above.func) in ("dict", "list", "len")
+                        read = isinstance(above, ast.Attribute) and above.attr == "get"
+                        self.assertTrue(copied or read or isinstance(above, (ast.Subscript, ast.Compare)))
+            for node in ast.walk(tree):
+                if isinstance(node, ast.Call):
+                    self.assertFalse(isinstance(node.func, ast.Subscript), "a function of a table gets a name first")
+
+    def test_finally(self):
+        for place, node in self.nodes(ast.Try):
+            for statement in node.finalbody:
+                self.assertIsInstance(statement, ast.Assign, place)
+                self.assertFalse([part for part in ast.walk(statement) if isinstance(part, (ast.Call, ast.Subscript, ast.BinOp))], place)
+            for handler in node.handlers:
+                told = handler.type.elts if isinstance(handler.type, ast.Tuple) else [handler.type]
+                for name in told:
+                    self.assertIn(name.id, {kind.name for kind in self.modules["firmrows.errors"].body if isinstance(kind, ast.ClassDef)}, place)
+
+    def test_no_sets_get_more(self):
+        # A class of the package has a method called add.
+        for place, node in self.nodes(ast.Assign):
+            value = node.value
+            kept = isinstance(value, (ast.Set, ast.SetComp)) or isinstance(value, ast.Call) and ast.unparse(value.func) == "set"
+            self.assertFalse(kept, place)
+
     def test_attributes(self):
         properties = {node.name for _, node in self.nodes(ast.FunctionDef)
                       if any(ast.unparse(decorator) == "property" for decorator in node.decorator_list)}
         stored = {node.attr for _, node in self.nodes(ast.Attribute) if isinstance(node.ctx, ast.Store)}
         self.assertFalse(stored & (properties | self.methods | METHODS))
+        plain = [node.name for _, node in self.nodes(ast.FunctionDef) if not node.decorator_list and node.args.args[:1]
+                 and node.args.args[0].arg == "self"]
+        self.assertFalse(properties & (set(plain) | METHODS))
 
     def test_methods_that_only_look(self):
         for place, node in self.nodes(ast.FunctionDef):
             if node.name == "__eq__":
                 self.assertIn("isinstance(other, ", ast.unparse(node.body[0]), place)
             if node.name in ("__eq__", "__len__", "__str__", "__bool__", "__contains__"):
+                self.assertIsInstance(node.body[-1], ast.Return, place)
                 self.assertFalse([part for part in ast.walk(node) if isinstance(part, (ast.Assign, ast.AugAssign))], place)
 
 

@@ -76,6 +76,7 @@ class Question:
         if len(different) > MAX_RULES:
             raise TooMany(MAX_RULES)
         self._rules = tuple(list(different))
+        self._named = None
 
     @classmethod
     def of(cls, rules, *, width=None):
@@ -97,7 +98,9 @@ class Question:
     @property
     def named(self):
         """The ascending tuple of the integers that stand in the rules."""
-        return numbers_in(self._rules)
+        if self._named is None:
+            self._named = numbers_in(self._rules)
+        return self._named
 
     def __call__(self, database):
         check_database(database)
@@ -112,15 +115,13 @@ class Question:
     def without_rule(self, index):
         """Return the question without the rule with this index, with the same width."""
         check_index(self, index)
-        rules = self._rules[:index] + self._rules[index + 1:]
-        return Question(*rules, width=self._width)
+        return made_question(self._rules[:index] + self._rules[index + 1:], self._width)
 
     def moved(self, numbers):
         """Return the question in which the integers that are keys of a dict are replaced."""
         if not is_exchange(numbers):
             raise InvalidOperation("not a dict from integers to integers")
-        rules = [put_in_rule(rule, numbers) for rule in self._rules]
-        return Question(*rules, width=self._width)
+        return made_question([put_in_rule(rule, numbers) for rule in self._rules], self._width)
 
     def __or__(self, other):
         if not isinstance(other, Question) or self._width != other._width:
@@ -136,6 +137,13 @@ class Question:
 
     def __str__(self):
         return f"question of {len(self._rules)} rules, width {self._width}"
+
+
+def made_question(rules, width):
+    """Return the question with rules that are known to be rules of this width, and not too many."""
+    question = Question(width=width)
+    question._rules = tuple(list({rule: True for rule in rules}))
+    return question
 
 
 def check_rules(rules):

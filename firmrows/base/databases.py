@@ -11,7 +11,8 @@ class Database:
     def __init__(self, *rows):
         check_rows(rows)
         self._rows = tuple(sorted(set(rows)))
-        self._have = {row: True for row in self._rows}
+        self._held = None
+        self._places = None
 
     @classmethod
     def of(cls, rows):
@@ -19,6 +20,13 @@ class Database:
         if not isinstance(rows, tuple):
             raise InvalidDatabase("the rows of a database are a tuple")
         return cls(*rows)
+
+    @property
+    def _table(self):
+        """A dict whose keys are the rows, made when it is first asked for."""
+        if self._held is None:
+            self._held = {row: True for row in self._rows}
+        return self._held
 
     @property
     def rows(self):
@@ -37,26 +45,38 @@ class Database:
 
     def with_rows(self, *rows):
         """Return the database with these rows put in."""
-        every = self._rows + rows
-        return Database(*every)
+        check_rows(rows)
+        return made(tuple(sorted(set(self._rows + rows))))
 
     def without_rows(self, *rows):
         """Return the database with these rows taken out."""
-        return self - Database(*rows)
+        check_rows(rows)
+        return made(tuple([row for row in self._rows if row not in rows]))
 
     def fitting(self, pattern):
         """Yield the rows that fit a pattern, ascending."""
         check_pattern(pattern)
-        for row in self._rows:
+        for row in self.near(pattern):
             if bound(pattern, row) is not None:
                 yield row
+
+    def near(self, pattern):
+        """Return a tuple of rows, ascending, among them all that fit a pattern, and few others."""
+        if self._places is None:
+            self._places = places_of(self._rows)
+        table = (pattern[0], len(pattern))
+        best = self._places.get(table, ())
+        for place, term in enumerate(pattern[1:]):
+            if isinstance(term, int):
+                found = self._places.get(table + (place, term), ())
+                best = found if len(found) < len(best) else best
+        return best
 
     def cut(self, numbers):
         """Return the database of the rows all of whose integers are in a tuple."""
         if not is_integers(numbers):
             raise InvalidOperation("not a tuple of integers")
-        rows = [row for row in self._rows if all([number in numbers for number in row[1:]])]
-        return Database(*rows)
+        return made(tuple([row for row in self._rows if all([number in numbers for number in row[1:]])]))
 
     def moved(self, numbers):
         """Return the database in which the integers that are keys of a dict are replaced."""
@@ -65,38 +85,38 @@ class Database:
         before = self.numbers
         if len(set([numbers.get(number, number) for number in before])) < len(before):
             raise InvalidOperation("two different integers of the database would become equal")
-        rows = [put_in(row, numbers) for row in self._rows]
-        return Database(*rows)
+        return made(tuple(sorted([put_in(row, numbers) for row in self._rows])))
 
     def is_within(self, value):
         """Return whether the value is a database that has all rows of this one."""
-        return isinstance(value, Database) and all([row in value for row in self._rows])
+        if not isinstance(value, Database):
+            return False
+        theirs = value._table
+        return all([row in theirs for row in self._rows])
 
     def __or__(self, other):
         check_other(other)
-        rows = self._rows + other._rows
-        return Database(*rows)
+        return made(tuple(sorted(set(self._rows + other._rows))))
 
     def __and__(self, other):
         check_other(other)
-        rows = [row for row in self._rows if row in other._have]
-        return Database(*rows)
+        theirs = other._table
+        return made(tuple([row for row in self._rows if row in theirs]))
 
     def __sub__(self, other):
         check_other(other)
-        rows = [row for row in self._rows if row not in other._have]
-        return Database(*rows)
+        theirs = other._table
+        return made(tuple([row for row in self._rows if row not in theirs]))
 
     def __xor__(self, other):
         check_other(other)
-        ours = [row for row in self._rows if row not in other._have]
-        theirs = [row for row in other._rows if row not in self._have]
-        rows = ours + theirs
-        return Database(*rows)
+        ours, theirs = self._table, other._table
+        rows = [row for row in self._rows if row not in theirs] + [row for row in other._rows if row not in ours]
+        return made(tuple(sorted(rows)))
 
     def __contains__(self, value):
         # ("t", True) is equal to ("t", 1), but it is no row.
-        return is_row(value) and value in self._have
+        return is_row(value) and value in self._table
 
     def __len__(self):
         return len(self._rows)
@@ -106,6 +126,24 @@ class Database:
 
     def __str__(self):
         return f"database of {len(self._rows)} rows"
+
+
+def places_of(rows):
+    """Return a dict from tables, and from tables with a place and an integer, to the tuples of the rows with these."""
+    lists = {}
+    for row in rows:
+        table = (row[0], len(row))
+        lists.setdefault(table, []).append(row)
+        for place, number in enumerate(row[1:]):
+            lists.setdefault(table + (place, number), []).append(row)
+    return {key: tuple(lists[key]) for key in lists}
+
+
+def made(rows):
+    """Return the database of an ascending tuple of rows that are known to be rows."""
+    database = Database()
+    database._rows = rows
+    return database
 
 
 def check_other(other):

@@ -1,9 +1,10 @@
 """Parts of a question that are not needed."""
 
-from firmrows.ask.questions import Question, check_question
+from firmrows.ask.questions import check_question, made_question
 from firmrows.ask.rules import variables_in
 from firmrows.base.rows import is_integer
-from firmrows.compare.within import is_within, paper_within
+from firmrows.compare.cases import Cases
+from firmrows.compare.within import are_within, paper_within
 from firmrows.errors import InvalidOperation
 
 RULE = "rule"
@@ -64,7 +65,7 @@ def rest_without(question, part):
     k = part[1]
     rules = question.rules
     middle = () if part[0] == RULE else (rule_without(question, part),)
-    return Question.of(rules[:k] + middle + rules[k + 1:], width=question.width)
+    return made_question(rules[:k] + middle + rules[k + 1:], question.width)
 
 
 def rest_of(question, part):
@@ -82,34 +83,47 @@ def part_paper(question, part):
     return paper_within(question, rest) if part[0] == RULE else paper_within(rest, question)
 
 
-def is_needless(question, part):
-    """Return whether a part of the question is needless."""
-    rest = rest_without(question, part)
-    return is_within(question, rest) if part[0] == RULE else is_within(rest, question)
+class Needless:
+    """Which parts of a question are needless.
+
+    The dict keeps which rules are within the question. While only needless parts are left out, that stays
+    true or false; and a part of a rule is needless exactly if what is left of the rule is within the question.
+    """
+
+    def __init__(self, question, known):
+        self._question = question
+        self._known = known
+        self._cases = Cases(question)
+
+    def has_within(self, rule):
+        """Return whether a rule, without other integers than the question has, is within the question."""
+        if rule in self._question.rules:
+            return True
+        if rule not in self._known:
+            self._known[rule] = are_within((rule,), self._question.named, self._cases)
+        return self._known[rule]
+
+    def has_part(self, part):
+        """Return whether a part is needless."""
+        question = self._question
+        if part[0] != RULE:
+            return self.has_within(rule_without(question, part))
+        return are_within((question.rules[part[1]],), question.named, Cases(rest_without(question, part)))
 
 
 def needless(question):
     """Return the tuple of the needless parts."""
     check_question(question)
-    return tuple([part for part in every_part(question) if is_needless(question, part)])
+    search = Needless(question, {})
+    return tuple([part for part in every_part(question) if search.has_part(part)])
 
 
 def first_needless(question, known):
-    """Return the first needless part, or None.
-
-    The dict keeps which rules are within the question. While only needless parts are left out, that stays
-    true or false; and a part of a rule is needless exactly if what is left of the rule is within the question.
-    """
+    """Return the first needless part, or None."""
+    search = Needless(question, known)
     for part in every_part(question):
-        if part[0] == RULE:
-            if is_needless(question, part):
-                return part
-        else:
-            rule = rule_without(question, part)
-            if rule not in known:
-                known[rule] = is_needless(question, part)
-            if known[rule]:
-                return part
+        if search.has_part(part):
+            return part
     return None
 
 

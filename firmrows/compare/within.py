@@ -4,9 +4,9 @@ from firmrows.ask.matches import first_match
 from firmrows.ask.questions import check_question
 from firmrows.base.databases import Database
 from firmrows.base.rows import is_integers
-from firmrows.compare.cases import are_trees_for, trees_for
-from firmrows.compare.frozen import freeze, freeze_for, joint
-from firmrows.errors import InvalidOperation
+from firmrows.compare.cases import Cases, are_trees_for
+from firmrows.compare.frozen import freeze_for, freeze_with_leaves, joint, one_by_one
+from firmrows.errors import InvalidOperation, TooMany
 
 WITHIN = "within"
 APART = "apart"
@@ -32,26 +32,44 @@ def is_answer_in(question, base, answer):
     return isinstance(base, Database) and is_integers(answer) and len(answer) == question.width
 
 
+def leaves_in(question, other, leaves):
+    """Return the list of what leaves of a question are in another one, which has the rule, too, or else None."""
+    places = [other.rules.index(rule) if rule in other.rules else None for rule in question.rules]
+    return [None if places[index] is None else (places[index], integers) for index, integers in leaves]
+
+
 def paper_within(question, other):
     """Return what `within_paper` returns, for arguments that are checked."""
-    frozen = freeze(question.rules, joint(question.named, other.named))
-    trees, lost, spoiler = trees_for(other, frozen)
+    frozen = freeze_with_leaves(question.rules, joint(question.named, other.named))
+    trees, lost, spoiler = Cases(other).trees(list(frozen), leaves_in(question, other, list(frozen.values())))
     return (APART, spoiler, lost[0]) if trees is None else (WITHIN, trees)
 
 
-def are_within(rules, numbers, other):
-    """Return whether all answers of some rules are answers of the question, in every database.
+def are_all_within(rules, numbers, search):
+    """Return what `are_within` returns; TooMany is raised sooner, since the frozen rules are not in their order."""
+    for case, _ in one_by_one(rules, numbers):
+        if search.quick(case, None)[0] is None:
+            return False
+    return True
+
+
+def are_within(rules, numbers, search):
+    """Return whether all answers of some rules are answers of the question of a search, in every database.
 
     The numbers are at least all the integers that are named by the rules and the question.
     """
-    return trees_for(other, freeze(rules, numbers))[0] is not None
+    try:
+        return are_all_within(rules, numbers, search)
+    except TooMany:
+        frozen = freeze_with_leaves(rules, numbers)
+        return search.trees(list(frozen), [None for _ in frozen])[0] is not None
 
 
 def is_within(question, other):
     """Return whether the question is within the other one."""
     # A rule that both questions have is in no database the reason for a difference.
     rules = [rule for rule in question.rules if rule not in other.rules]
-    return are_within(rules, joint(question.named, other.named), other)
+    return are_within(rules, joint(question.named, other.named), Cases(other))
 
 
 def within_paper(question, other):

@@ -2,9 +2,10 @@
 
 from firmrows.ask.questions import check_question
 from firmrows.base.databases import Database
-from firmrows.compare.cases import are_trees_for, trees_for
-from firmrows.compare.frozen import freeze, freeze_for
+from firmrows.compare.cases import Cases, are_trees_for
+from firmrows.compare.frozen import freeze_for, freeze_with_leaves, one_by_one
 from firmrows.compare.within import has_answer, is_answer_in
+from firmrows.errors import TooMany
 from firmrows.future.licences import Licence
 from firmrows.papers.firm import firm_answers
 
@@ -18,8 +19,8 @@ def cases_of(frozen):
 
 
 def paper_for(frozen, question):
-    """Return what `early_paper` returns, for a question with these frozen rules."""
-    trees, lost, spoiler = trees_for(question, cases_of(frozen))
+    """Return what `early_paper` returns, for a question with a dict from its frozen rules to leaves."""
+    trees, lost, spoiler = Cases(question).trees(cases_of(frozen), list(frozen.values()))
     if trees is not None:
         return (EARLY, trees)
     head, rows, _ = lost
@@ -28,7 +29,7 @@ def paper_for(frozen, question):
 
 def paper_of(question):
     """Return what `early_paper` returns, for a question that is checked."""
-    return paper_for(freeze(question.rules, question.named), question)
+    return paper_for(freeze_with_leaves(question.rules, question.named), question)
 
 
 def early_paper(question):
@@ -37,10 +38,22 @@ def early_paper(question):
     return paper_of(question)
 
 
+def keeps_all(question):
+    """Return what `is_early` returns; TooMany is raised sooner, since the frozen rules are not in their order."""
+    search = Cases(question)
+    for frozen, leaf in one_by_one(question.rules, question.named):
+        if search.quick((frozen[0], frozen[1], ()), leaf)[0] is None:
+            return False
+    return True
+
+
 def is_early(question):
     """Return whether the question is early."""
     check_question(question)
-    return paper_of(question)[0] == EARLY
+    try:
+        return keeps_all(question)
+    except TooMany:
+        return paper_of(question)[0] == EARLY
 
 
 def is_early_paper(question, value):

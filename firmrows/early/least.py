@@ -5,7 +5,7 @@ from firmrows.ask.questions import (
 )
 from firmrows.base.databases import Database
 from firmrows.base.patterns import put_in, put_in_terms
-from firmrows.compare.frozen import freeze, new_numbers
+from firmrows.compare.frozen import freeze_with_leaves, new_numbers
 from firmrows.compare.within import has_answer
 from firmrows.early.early import LATE, paper_for
 from firmrows.early.normal import normal_of
@@ -67,7 +67,7 @@ def least_of(question, frozen):
 def least_set(question):
     """Return the least set of an early question: the fixed integers, and the shapes."""
     check_question(question)
-    frozen = freeze(question.rules, question.named)
+    frozen = freeze_with_leaves(question.rules, question.named)
     paper = paper_for(frozen, question)
     if paper[0] == LATE:
         raise NotEarly(paper)

@@ -2,7 +2,7 @@
 
 from itertools import combinations
 
-from firmrows.base.databases import Database, check_database
+from firmrows.base.databases import Database, check_database, made
 from firmrows.base.rows import check_row, check_rows
 from firmrows.errors import InvalidOperation, NotLet, TooMany
 from firmrows.future.licences import check_licence
@@ -73,6 +73,10 @@ def futures(database, licence, rows):
     able = [row for row in sorted(set(rows)) if is_changeable(database, licence, row)]
     if len(able) > MAX_CHANGES:
         raise TooMany(MAX_CHANGES)
+    firm = [row for row in database.rows if row not in able]
+    there = [row for row in able if row in database]
     for many in range(len(able) + 1):
         for chosen in choices(able, many):
-            yield database ^ Database(*chosen)
+            stays = [row for row in there if row not in chosen]
+            comes = [row for row in chosen if row not in there]
+            yield made(tuple(sorted(firm + stays + comes)))

@@ -4,7 +4,7 @@ from firmrows.ask.questions import check_answer, check_question
 from firmrows.base.databases import Database
 from firmrows.base.patterns import bound
 from firmrows.base.rows import check_pattern, is_integer, is_pattern, is_row
-from firmrows.compare.cases import are_trees_for, spoiler_of, trees_for
+from firmrows.compare.cases import Cases, are_trees_for
 from firmrows.compare.frozen import joint
 from firmrows.compare.within import has_answer, is_answer_in
 from firmrows.errors import InvalidEdit
@@ -54,7 +54,7 @@ def paper_of(question, pattern, kind):
     """Return a pair: the trees for the pairs of a kind and None, or None and a triple of a loss or gain paper."""
     pairs = freeze_pairs(question.rules, numbers_with(question, pattern), pattern, kind)
     cases = cases_of(pairs, kind)
-    trees, lost, spoiler = trees_for(question, cases)
+    trees, lost, spoiler = Cases(question).trees(cases, [None for _ in cases])
     if trees is not None:
         return (trees, None)
     row = pairs[cases.index(lost)][3]
@@ -115,8 +115,9 @@ def has_change(question, rules, numbers, pattern, kind):
     If a row comes that is not among the barred ones, the match of the frozen rule stays. So for a loss it is
     enough to look at the pairs whose row is away.
     """
+    search = Cases(question)
     for case in cases_of(freeze_pairs(rules, numbers, pattern, kind), kind):
-        if spoiler_of(question, case)[0] is None:
+        if search.search(case, None)[0] is None:
             return True
     return False
 
@@ -179,7 +180,8 @@ def edit_paper(question, edit, answer):
     word, row = edit
     kind = BESIDE if word == PUT else AMONG
     rules, numbers = rules_and_numbers(question, row, answer)
-    trees, _, spoiler = trees_for(question, cases_of(freeze_pairs(rules, numbers, row, kind), kind))
+    cases = cases_of(freeze_pairs(rules, numbers, row, kind), kind)
+    trees, _, spoiler = Cases(question).trees(cases, [None for _ in cases])
     if trees is not None:
         return (KEPT, trees)
     return (LOST, spoiler.without_rows(row) if word == PUT else spoiler.with_rows(row))

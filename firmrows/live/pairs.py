@@ -1,8 +1,9 @@
 """Frozen pairs: frozen rules, each with a row that comes or goes."""
 
-from firmrows.ask.rules import put_in_rule, variables_in
+from firmrows.ask.molds import Mold
+from firmrows.ask.rules import names_among, put_in_rule, variables_in
 from firmrows.base.patterns import meeting, put_in
-from firmrows.compare.frozen import MAX_WAYS, choices_after, frozen_of, is_clear
+from firmrows.compare.frozen import MAX_WAYS, Freezer
 from firmrows.errors import TooMany
 
 # Which pairs are asked for: all; those whose row is not among the rows; among them; among those that are away.
@@ -17,69 +18,59 @@ def own_pattern(pattern):
     return pattern[:1] + tuple(["1 " + term if isinstance(term, str) else term for term in pattern[1:]])
 
 
-def can_meet(rule, pattern, others):
-    """Return whether a row of a pattern can be one of some others, which are patterns of the rule."""
-    for other in others:
+def special_rules(rule, pattern, kind):
+    """Return the list of triples of a rule, a pattern of it and its variables, in the order of the given rule's ones.
+
+    In each of them a pattern of the rule is one that only rows of the given pattern fit.
+    """
+    found = []
+    for other in rule[1] if kind == AMONG else rule[2]:
         table = meeting(other, pattern)
-        if table is not None and is_clear(put_in_rule(rule, table)):
-            return True
-    return False
+        if table is not None:
+            terms = [table.get(name, name) for name in variables_in(rule)]
+            names = tuple(list({term: True for term in terms if isinstance(term, str)}))
+            found.append((put_in_rule(rule, table), put_in(other, table), names))
+    return found
 
 
-def can_serve(rule, pattern, kind):
-    """Return whether a rule and a pattern, in which integers may be missing, can become a pair of a kind."""
-    if kind == AMONG:
-        return can_meet(rule, pattern, rule[1])
-    if kind == AWAY:
-        return can_meet(rule, pattern, rule[2])
-    return is_clear(rule) and (kind == EVERY or pattern not in rule[1])
+def pair_lines(rules, numbers, pattern, kind):
+    """Yield pairs of a mold and a line, for all pairs of a kind; the row is that of the further pattern of the mold."""
+    own = own_pattern(pattern)
+    for rule in rules:
+        # The blanks come behind the variables; equal names of both mean nothing.
+        triples = [(rule, own, variables_in(rule) + names_among(own[1:]))]
+        if kind in (AMONG, AWAY):
+            triples = special_rules(rule, own, kind)
+        for special, row, names in triples:
+            mold = Mold(special, names, (row,))
+            freezer = Freezer(mold, len(names), numbers, kind == BESIDE)
+            for line in freezer.lines():
+                yield (mold, line)
 
 
-def pair_givings(rule, pattern, numbers, kind, names, table):
-    """Yield the dicts that give integers to all names and make a pair of a kind, beginning with this dict."""
-    if not can_serve(put_in_rule(rule, table), put_in(pattern, table), kind):
-        return
-    if len(table) == len(names):
-        yield table
-        return
-    name = names[len(table)]
-    for number in choices_after(numbers, table):
-        more = {**table, name: number}
-        yield from pair_givings(rule, pattern, numbers, kind, names, more)
-
-
-def names_for(rule, pattern):
-    """Return the tuple of the variables of a rule and of the marked blanks of a pattern."""
-    blanks = [term for term in pattern[1:] if isinstance(term, str)]
-    return variables_in(rule) + tuple(sorted(set(blanks)))
+def pair_of(mold, line):
+    """Return the frozen pair of a mold and a line."""
+    return mold.frozen_of(line) + tuple(mold.further_of(line))
 
 
 def freeze_pairs(rules, numbers, pattern, kind):
-    """Return the ascending tuple of the different frozen pairs of a kind; TooMany for more than 2000 ways."""
-    own = own_pattern(pattern)
+    """Return the ascending tuple of the different frozen pairs of a kind; TooMany for more than 2000 of them."""
     found = {}
-    many = 0
-    for rule in rules:
-        names = names_for(rule, own)
-        for table in pair_givings(rule, own, numbers, kind, names, {}):
-            many = many + 1
-            if many > MAX_WAYS:
-                raise TooMany(MAX_WAYS)
-            found[frozen_of(rule, table) + (put_in(own, table),)] = True
+    for mold, line in pair_lines(rules, numbers, pattern, kind):
+        found[pair_of(mold, line)] = True
+        if len(found) > MAX_WAYS:
+            raise TooMany(MAX_WAYS)
     return tuple(sorted(list(found)))
 
 
 def freeze_pairs_for(rules, numbers, pattern, kind, trees):
     """Return the ascending tuple of the different frozen pairs of a kind, or None if there are more than trees."""
     most = len(trees) if isinstance(trees, tuple) else -1
-    own = own_pattern(pattern)
     found = {}
-    for rule in rules:
-        names = names_for(rule, own)
-        for table in pair_givings(rule, own, numbers, kind, names, {}):
-            found[frozen_of(rule, table) + (put_in(own, table),)] = True
-            if len(found) > most:
-                return None
+    for mold, line in pair_lines(rules, numbers, pattern, kind):
+        found[pair_of(mold, line)] = True
+        if len(found) > most:
+            return None
     return tuple(sorted(list(found)))
 
 

@@ -3,7 +3,7 @@
 from firmrows.ask.questions import check_index
 from firmrows.ask.rules import variables_in
 from firmrows.base.patterns import bound, is_filling, put_in, put_in_terms
-from firmrows.base.rows import is_integer, is_name, is_term
+from firmrows.base.rows import is_name
 from firmrows.errors import InvalidOperation
 from firmrows.papers.checks import check_case
 from firmrows.papers.equal import has_equal, makes_equal, start_of, states_below
@@ -18,28 +18,15 @@ INDICES = {"pair": 1, "stays": 1, "both": 2, "never": 1, "none": 0}
 MAX_DEPTH = 20
 
 
-def is_reason(value):
-    """Return whether the value has the form of a leaf."""
-    if not isinstance(value, tuple) or len(value) == 0 or not isinstance(value[0], str):
+def is_reason(node):
+    """Return whether a tuple that is not empty has the form of a leaf."""
+    word = node[0]
+    if not isinstance(word, str) or len(node) != 1 + INDICES.get(word, -1):
         return False
-    if value[0] not in INDICES or len(value) != 1 + INDICES[value[0]]:
-        return False
-    return all([is_integer(part) and part >= 0 for part in value[1:]])
-
-
-def is_case(value, variable):
-    """Return whether the value is a pair of a term other than the variable and anything."""
-    return isinstance(value, tuple) and len(value) == 2 and is_term(value[0]) and value[0] != variable
-
-
-def is_choice(value):
-    """Return whether the value has the form of an inner node; what stands below it does not matter."""
-    if not isinstance(value, tuple) or len(value) != 4 or value[0] != IS or not is_name(value[1]):
-        return False
-    variable, cases = value[1], value[2]
-    if not isinstance(cases, tuple) or not all([is_case(case, variable) for case in cases]):
-        return False
-    return len(set([case[0] for case in cases])) == len(cases)
+    for part in node[1:]:
+        if not isinstance(part, int) or isinstance(part, bool) or part < 0:
+            return False
+    return True
 
 
 def is_inner(node):
@@ -47,36 +34,59 @@ def is_inner(node):
     return node[0] == IS
 
 
-def below(nodes):
-    """Return the list of the nodes directly below some nodes."""
-    inner = [node for node in nodes if is_inner(node)]
-    return [tree for node in inner for _, tree in node[2]] + [node[3] for node in inner]
+def add_choice(node, names, deeper):
+    """Return whether an inner node has its form, but for what stands below it and which strings are names.
+
+    Its strings are added to the keys of a dict, and the nodes directly below it to a list.
+    """
+    if len(node) != 4 or not isinstance(node[1], str) or not isinstance(node[2], tuple):
+        return False
+    _, variable, cases, other = node
+    names[variable] = True
+    terms = {variable: True}
+    for case in cases:
+        if not isinstance(case, tuple) or len(case) != 2:
+            return False
+        term, below = case
+        if isinstance(term, str):
+            names[term] = True
+        elif not isinstance(term, int) or isinstance(term, bool):
+            return False
+        terms[term] = True
+        deeper.append(below)
+    deeper.append(other)
+    # The terms are different, and none is the variable.
+    return len(terms) == len(cases) + 1
+
+
+def names_and_reasons(value):
+    """Return two dicts, or None if the value has not the form of a bar tree of a depth of at most 20.
+
+    The keys of one are all names in the tree, those of the other one are its leaves.
+    """
+    names, reasons = {}, {}
+    level = [value]
+    for _ in range(MAX_DEPTH + 1):
+        deeper = []
+        for node in level:
+            if not isinstance(node, tuple) or len(node) == 0:
+                return None
+            if node[0] == IS:
+                if not add_choice(node, names, deeper):
+                    return None
+            elif is_reason(node):
+                reasons[node] = True
+            else:
+                return None
+        if len(deeper) == 0:
+            return (names, reasons) if all([is_name(name) for name in names]) else None
+        level = deeper
+    return None
 
 
 def is_bars(value):
     """Return whether the value has the form of a bar tree of a depth of at most 20."""
-    level = [value]
-    for _ in range(MAX_DEPTH + 1):
-        if not all([is_reason(node) or is_choice(node) for node in level]):
-            return False
-        level = below(level)
-    return len(level) == 0
-
-
-def names_and_reasons(tree):
-    """Return two dicts: the keys of one are all names in a bar tree, those of the other one are its leaves."""
-    names = {}
-    reasons = {}
-    level = [tree]
-    while len(level) > 0:
-        for node in level:
-            if is_inner(node):
-                names[node[1]] = True
-                names.update({term: True for term, _ in node[2] if isinstance(term, str)})
-            else:
-                reasons[node] = True
-        level = below(level)
-    return (names, reasons)
+    return names_and_reasons(value) is not None
 
 
 def next_node(node, numbers):
@@ -90,10 +100,10 @@ def next_node(node, numbers):
 
 def reason_at(tree, numbers):
     """Return the leaf to which the integers of a dict go down."""
-    if not is_bars(tree):
+    scanned = names_and_reasons(tree)
+    if scanned is None:
         raise InvalidOperation("not a bar tree of a depth of at most 20")
-    names, _ = names_and_reasons(tree)
-    if not is_filling(numbers, list(names)):
+    if not is_filling(numbers, list(scanned[0])):
         raise InvalidOperation("not a dict from names to integers that has all names in the tree")
     node = tree
     while is_inner(node):
@@ -112,12 +122,14 @@ class BarCheck:
         self._rule = rule
         self._database = database
         self._licence = licence
+        self._escapes = {}
 
     def escapes(self, pattern, unlike):
         """Return what blanks can become so that the row of a pattern is there or may come: a list of dicts."""
-        found = [bound(pattern, row) for row in self._database.rows]
-        tables = [table for table in found if table is not None] + self._licence.comings(pattern)
-        return [table for table in tables if not makes_equal(table, unlike)]
+        if pattern not in self._escapes:
+            found = [bound(pattern, row) for row in self._database.near(pattern)]
+            self._escapes[pattern] = [table for table in found if table is not None] + self._licence.comings(pattern)
+        return [table for table in self._escapes[pattern] if not makes_equal(table, unlike)]
 
     def has_indices(self, reason):
         """Return whether the pair or the patterns that a leaf tells of exist."""
@@ -164,10 +176,11 @@ class BarCheck:
 
 def is_bar_tree_of(rule, database, licence, answer, value):
     """Return what `is_bar_tree` returns, for arguments that are checked."""
-    if not is_bars(value):
+    scanned = names_and_reasons(value)
+    if scanned is None:
         return False
     variables = variables_in(rule)
-    names, reasons = names_and_reasons(value)
+    names, reasons = scanned
     check = BarCheck(rule, database, licence)
     if not all([name in variables for name in names]) or not all([check.has_indices(reason) for reason in reasons]):
         return False

@@ -21,7 +21,7 @@ class Chances(Ways):
     def wanted_bits(self, pattern):
         """Return 0, or None if no row of a wanted pattern is there or may come."""
         if pattern not in self._possible:
-            there = len([row for row in self._database.rows if bound(pattern, row) is not None]) > 0
+            there = len([row for row in self._database.near(pattern) if bound(pattern, row) is not None]) > 0
             self._possible[pattern] = there or len(self._licence.comings(pattern)) > 0
         return 0 if self._possible[pattern] else None
 
@@ -40,14 +40,14 @@ class Chances(Ways):
     def choices(self, pattern, name):
         """Return the list of the integers that a variable of a wanted pattern can be."""
         if (pattern, name) not in self._chosen:
-            found = [bound(pattern, row) for row in self._database.rows]
+            found = [bound(pattern, row) for row in self._database.near(pattern)]
             tables = [table for table in found if table is not None] + self._licence.comings(pattern)
             self._chosen[(pattern, name)] = self.numbers_for(tables, name)
         return self._chosen[(pattern, name)]
 
     def changing(self, pattern, name):
         """Return the list of the integers that a variable of a row that can change can be."""
-        rows = [row for row in self._database.rows if self._licence.may_go(row)]
+        rows = [row for row in self._database.near(pattern) if self._licence.may_go(row)]
         found = [bound(pattern, row) for row in rows]
         tables = [table for table in found if table is not None] + self._licence.comings(pattern)
         return self.numbers_for(tables, name)

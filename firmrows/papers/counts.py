@@ -7,7 +7,6 @@ from firmrows.papers.trees import ASK
 
 MAX_COUNTED = 12
 MAX_LEAST = 8
-ENDLESS = 1000
 
 
 def terms_and_rows(question, database, licence, answer, limit):
@@ -21,56 +20,65 @@ def columns(many):
     """Return the list of integers whose bit k tells whether the future k has the open row of a position."""
     found = []
     for place in range(many):
-        bit = 1 << place
-        found.append(sum([1 << k for k in range(1 << many) if k & bit > 0]))
+        width = 1 << place
+        column = ((1 << width) - 1) << width
+        for further in range(place + 1, many):
+            column = column | (column << (1 << further))
+        found.append(column)
     return found
 
 
-def outcomes(question, database, licence, answer):
-    """Return the list of whether the futures have the answer, and the open rows.
-
-    The bits of a position in the list tell which open rows the future has.
-    """
-    terms, opened = terms_and_rows(question, database, licence, answer, MAX_COUNTED)
-    many = len(opened)
-    every = (1 << (1 << many)) - 1
-    having = columns(many)
+def futures_with(terms, having, every):
+    """Return the integer whose bit k tells whether the future k has the answer."""
     held = 0
     for there, away in terms:
         fitting = every
-        for place in range(many):
+        for place, column in enumerate(having):
             if there & (1 << place) > 0:
-                fitting = fitting & having[place]
+                fitting = fitting & column
             if away & (1 << place) > 0:
-                fitting = fitting & ~having[place]
+                fitting = fitting & ~column
         held = held | fitting
-    return ([held & (1 << k) > 0 for k in range(1 << many)], opened)
+    return held
+
+
+def outcomes(question, database, licence, answer):
+    """Return which futures have the answer, which have each open row, which there are, and the open rows.
+
+    Each of the first three is told by the bits of integers. The bits of k tell which open rows the future k has.
+    """
+    terms, opened = terms_and_rows(question, database, licence, answer, MAX_COUNTED)
+    having = columns(len(opened))
+    every = (1 << (1 << len(opened))) - 1
+    return (futures_with(terms, having, every), having, every, opened)
+
+
+def ones(number):
+    """Return how many bits of a number are set."""
+    digits = f"{number:b}"
+    return digits.count("1")
 
 
 def share(question, database, licence, answer):
     """Return how many of the futures in the open rows have the answer, and how many there are."""
-    held, _ = outcomes(question, database, licence, answer)
-    return (sum([1 for has in held if has]), len(held))
+    held, _, every, _ = outcomes(question, database, licence, answer)
+    return (ones(held), ones(every))
 
 
 def deciders(question, database, licence, answer):
     """Return the ascending tuple of the open rows that alone decide whether the answer is there."""
-    held, opened = outcomes(question, database, licence, answer)
-    found = []
-    for place, row in enumerate(opened):
-        having = [k & (1 << place) > 0 for k in range(len(held))]
-        if held == having or held == [not has for has in having]:
-            found.append(row)
-    return tuple(found)
+    held, having, every, opened = outcomes(question, database, licence, answer)
+    return tuple([row for row, column in zip(opened, having) if held == column or held == every & ~column])
 
 
 def weights(question, database, licence, answer):
     """Return a dict from the open rows to how many futures lose or get the answer by this row alone."""
-    held, opened = outcomes(question, database, licence, answer)
+    held, having, every, opened = outcomes(question, database, licence, answer)
     found = {}
     for place, row in enumerate(opened):
-        bit = 1 << place
-        found[row] = sum([1 for k in range(len(held)) if held[k] != held[k ^ bit]])
+        # Beside each future without the row stands the one that differs by the row alone.
+        beside = held ^ (held >> (1 << place))
+        found[row] = 2 * ones(beside & every & ~having[place])
     return found
 
 
@@ -80,32 +88,48 @@ class LeastSearch:
     def __init__(self, terms, opened):
         self._terms = terms
         self._opened = opened
-        self._least = {}
+        self._failed = {}
 
-    def least(self, there, away):
-        """Return a pair: the depth and a right tree of this depth, or `ENDLESS` and None."""
-        if (there, away) not in self._least:
-            self._least[(there, away)] = self.worked_out(there, away)
-        return self._least[(there, away)]
+    def alive(self, there, away):
+        """Return the list of the pairs (unknown bits, leaf) of the terms that can still hold."""
+        known = ~(there | away)
+        able = [term for term in self._terms if term[0] & away == 0 and term[1] & there == 0]
+        return [((term[0] | term[1]) & known, self._terms[term]) for term in able]
 
-    def worked_out(self, there, away):
-        """Return what `least` returns, when it is asked for the first time."""
-        for term in self._terms:
-            if term[0] & ~there == 0 and term[1] & ~away == 0:
-                return (0, self._terms[term])
-        best = (ENDLESS, None)
-        for place, row in enumerate(self._opened):
-            bit = 1 << place
-            if bit & (there | away) == 0:
-                yes = self.least(there | bit, away)
-                no = self.least(there, away | bit)
-                many = 1 + max(yes[0], no[0])
-                if many < best[0]:
-                    best = (many, (ASK, row, yes[1], no[1]))
-        return best
+    def tree(self, there, away, deep):
+        """Return a right tree whose depth is no more than that, or None."""
+        if self._failed.get((there, away), -1) >= deep:
+            return None
+        alive = self.alive(there, away)
+        bits = 0
+        # A leaf is a term of which nothing is unknown; so with more unknown than steps there is none.
+        least = deep + 1
+        for unknown, leaf in alive:
+            if unknown == 0:
+                return leaf
+            least = min(least, ones(unknown))
+            bits = bits | unknown
+        if least <= deep:
+            for place, row in enumerate(self._opened):
+                bit = 1 << place
+                if bits & bit > 0:
+                    yes = self.tree(there | bit, away, deep - 1)
+                    no = None if yes is None else self.tree(there, away | bit, deep - 1)
+                    if no is not None:
+                        return (ASK, row, yes, no)
+        self._failed[(there, away)] = deep
+        return None
 
 
 def least_tree(question, database, licence, answer):
     """Return a right case tree of the least depth, or None if the answer is not firm."""
     terms, opened = terms_and_rows(question, database, licence, answer, MAX_LEAST)
-    return LeastSearch(terms, opened).least(0, 0)[1]
+    every = (1 << (1 << len(opened))) - 1
+    if futures_with(terms, columns(len(opened)), every) != every:
+        return None
+    search = LeastSearch(terms, opened)
+    for deep in range(len(opened) + 1):
+        tree = search.tree(0, 0, deep)
+        if tree is not None:
+            return tree
+    return None

@@ -1,12 +1,11 @@
 """What is known of the variables of a rule on a way through a bar tree.
 
 A state is a pair of dicts. The first one takes each variable to an integer or to a variable that is equal
-to it. The keys of the second one are pairs of different terms: a variable and an integer, or two variables in
-ascending order. The state is None where there are no such integers.
+to it. The second one takes such variables to dicts, whose keys are the terms from which they differ; two variables
+differ from one another. The state is None where there are no such integers.
 """
 
 from firmrows.ask.rules import variables_in
-from firmrows.base.patterns import put_in_terms
 
 
 def has_equal(pairs):
@@ -17,44 +16,45 @@ def has_equal(pairs):
     return False
 
 
-def in_order(one, other):
-    """Return the pair of two terms, of which at least one is a variable, as a state has it."""
-    if isinstance(one, int) or isinstance(other, str) and other < one:
-        return (other, one)
-    return (one, other)
-
-
-def all_in_order(pairs):
-    """Return a dict whose keys are pairs of terms as a state has them; pairs of two integers are left out."""
-    return {in_order(one, other): True for one, other in pairs if isinstance(one, str) or isinstance(other, str)}
-
-
 def equated(state, one, other):
     """Return the state with two terms equal."""
     if state is None:
         return None
-    table, unlike = state
-    one, other = put_in_terms((one, other), table)
+    table, apart = state
+    one, other = table.get(one, one), table.get(other, other)
     if one == other:
         return state
     if isinstance(one, int) and isinstance(other, int):
         return None
-    change = {other: one} if isinstance(one, int) else {one: other}
-    pairs = [put_in_terms(pair, change) for pair in unlike]
-    if has_equal(pairs):
+    old, new = (other, one) if isinstance(one, int) else (one, other)
+    differing = apart.get(old, {})
+    if new in differing:
         return None
-    return ({name: change.get(table[name], table[name]) for name in table}, all_in_order(pairs))
+    more = {name: apart[name] for name in apart if name != old}
+    if isinstance(new, str):
+        more[new] = {**more.get(new, {}), **differing}
+    for term in differing:
+        if isinstance(term, str):
+            more[term] = {**{name: True for name in more[term] if name != old}, new: True}
+    return ({name: new if table[name] == old else table[name] for name in table}, more)
 
 
 def parted(state, one, others):
     """Return the state with a term different from each of some others."""
-    if state is None:
+    if state is None or len(others) == 0:
+        return state
+    table, apart = state
+    one = table.get(one, one)
+    terms = {table.get(other, other): True for other in others}
+    if one in terms:
         return None
-    table, unlike = state
-    pairs = [put_in_terms((one, other), table) for other in others]
-    if has_equal(pairs):
-        return None
-    return (table, all_in_order(list(unlike) + pairs))
+    more = {name: apart[name] for name in apart}
+    if isinstance(one, str):
+        more[one] = {**more.get(one, {}), **terms}
+    for term in terms:
+        if isinstance(term, str):
+            more[term] = {**more.get(term, {}), one: True}
+    return (table, more)
 
 
 def states_below(state, variable, terms):
@@ -80,16 +80,17 @@ def start_of(rule, answer):
     return state
 
 
-def makes_equal(table, unlike):
+def makes_equal(table, apart):
     """Return whether terms that a state says to be different become equal, if a dict tells what variables become.
 
     They become integers, or strings that are equal for equal variables.
     """
     for name in table:
-        term = table[name]
-        if isinstance(term, int) and (name, term) in unlike:
-            return True
-        for other in table:
-            if name < other and table[other] == term and (name, other) in unlike:
+        if name in apart:
+            term, differing = table[name], apart[name]
+            if isinstance(term, int) and term in differing:
                 return True
+            for other in table:
+                if other != name and table[other] == term and other in differing:
+                    return True
     return False

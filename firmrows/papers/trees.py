@@ -1,11 +1,12 @@
 """Case trees: they show that an answer stays, whatever comes and goes."""
 
-from firmrows.ask.rules import put_in_rule, variables_in
+from firmrows.ask.molds import Mold
+from firmrows.ask.rules import variables_in
 from firmrows.base.databases import check_database
 from firmrows.base.rows import is_integer, is_integers, is_row
 from firmrows.errors import InvalidOperation
-from firmrows.future.futures import is_changeable
 from firmrows.papers.checks import check_case
+from firmrows.papers.grounds import Ground
 
 ASK = "ask"
 MATCH = "match"
@@ -37,10 +38,13 @@ def is_tree(value):
     """Return whether the value has the form of a case tree of a depth of at most 20."""
     level = [value]
     for _ in range(MAX_DEPTH + 1):
-        if not all([is_node(node) for node in level]):
-            return False
+        for node in level:
+            if not is_node(node):
+                return False
         level = below(level)
-    return len(level) == 0
+        if len(level) == 0:
+            return True
+    return False
 
 
 def check_tree(tree):
@@ -81,26 +85,22 @@ def leaf_at(tree, database):
     return node
 
 
+def molds_of(question):
+    """Return the list of the molds of the rules of a question."""
+    return [Mold(rule, variables_in(rule), ()) for rule in question.rules]
+
+
 class TreeCheck:
-    """Whether case trees are right for a question, a database, a licence and an answer.
+    """Whether case trees are right for the rules of some molds, a ground and an answer.
 
     In its methods `there` and `away` are the tuples of the rows that were found there,
     or not there, on the way to a node.
     """
 
-    def __init__(self, question, database, licence, answer):
-        self._question = question
-        self._database = database
-        self._licence = licence
+    def __init__(self, molds, ground, answer):
+        self._molds = molds
+        self._ground = ground
         self._answer = answer
-        self._settled = {}
-
-    def settled(self, row):
-        """Return whether a row is there in every future, or None if it can change."""
-        if row not in self._settled:
-            can = is_changeable(self._database, self._licence, row)
-            self._settled[row] = None if can else row in self._database
-        return self._settled[row]
 
     def known(self, row, there, away):
         """Return whether a row is there in all futures that come to a node, or None if it differs."""
@@ -108,23 +108,24 @@ class TreeCheck:
             return True
         if row in away:
             return False
-        return self.settled(row)
+        return self._ground.settled(row)
 
     def is_right_leaf(self, leaf, there, away):
         """Return whether a leaf to which some future goes down shows the answer."""
         _, index, integers = leaf
-        if index >= len(self._question):
+        if index >= len(self._molds):
             return False
-        rule = self._question.rules[index]
-        variables = variables_in(rule)
-        if len(variables) != len(integers):
+        mold = self._molds[index]
+        line = mold.line(integers)
+        if line is None or mold.head_of(line) != self._answer or not mold.is_unlike(line):
             return False
-        head, wanted, barred, unlike = put_in_rule(rule, dict(zip(variables, integers)))
-        if head != self._answer or not all([one != other for one, other in unlike]):
-            return False
-        if not all([self.known(row, there, away) is True for row in wanted]):
-            return False
-        return all([self.known(row, there, away) is False for row in barred])
+        for row in mold.wanted_of(line):
+            if self.known(row, there, away) is not True:
+                return False
+        for row in mold.barred_of(line):
+            if self.known(row, there, away) is not False:
+                return False
+        return True
 
     def is_right(self, node, there, away):
         """Return whether all leaves below a node to which some future goes down are right."""
@@ -139,7 +140,7 @@ class TreeCheck:
 
 def is_right_tree(question, database, licence, answer, value):
     """Return what `is_case_tree` returns, for arguments that are checked."""
-    check = TreeCheck(question, database, licence, answer)
+    check = TreeCheck(molds_of(question), Ground(database, licence), answer)
     return is_tree(value) and check.is_right(value, (), ())
 
 
