@@ -8,7 +8,7 @@ from firmrows.ask.rules import variables_in
 from firmrows.errors import TooMany
 from firmrows.papers.cases import CaseSearch
 from firmrows.papers.grounds import FrozenGround
-from firmrows.papers.seekers import seekers_for
+from firmrows.papers.seekers import seekers_for, tables_of
 from firmrows.papers.trees import TreeCheck, is_tree, molds_of
 
 # Among so few rows a match is found sooner without a plan.
@@ -22,12 +22,26 @@ class Cases:
         self._question = question
         self._seekers = {}
 
+    def seekers(self, head):
+        """Return the dict of what looks for matches with a head."""
+        if head not in self._seekers:
+            self._seekers[head] = seekers_for(self._question, head)
+        return self._seekers[head]
+
+    def has(self, head, rows):
+        """Return whether the question has a head as an answer in a database of few rows."""
+        have = {row: True for row in rows}
+        tables = tables_of(rows)
+        seekers = self.seekers(head)
+        for index in seekers:
+            if seekers[index].found(have, tables) is not None:
+                return True
+        return False
+
     def started(self, case, most):
         """Return a search for a right case tree for a case; among more rows than that it uses plans."""
         head, rows, away = case
-        if head not in self._seekers:
-            self._seekers[head] = seekers_for(self._question, head)
-        return CaseSearch(self._question, head, FrozenGround(rows, away), self._seekers[head], most)
+        return CaseSearch(self._question, head, FrozenGround(rows, away), self.seekers(head), most)
 
     def quick(self, case, leaf):
         """Return what `search` returns. TooMany is raised sooner, since not the first matches are found first."""

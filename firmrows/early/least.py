@@ -3,10 +3,9 @@
 from firmrows.ask.questions import (
     MAX_RULES, MAX_UNLIKE, MAX_VARIABLES, MAX_WANTED, Question, check_question, check_width,
 )
-from firmrows.base.databases import Database
 from firmrows.base.patterns import put_in, put_in_terms
+from firmrows.compare.cases import Cases
 from firmrows.compare.frozen import freeze_with_leaves, new_numbers
-from firmrows.compare.within import has_answer
 from firmrows.early.early import LATE, paper_for
 from firmrows.early.normal import normal_of
 from firmrows.early.search import free_numbers, given_by
@@ -24,21 +23,16 @@ def moved(shape, table):
     return (put_in_terms(head, table), tuple(sorted(set([put_in(row, table) for row in rows]))))
 
 
-def has_shape(question, shape):
-    """Return whether the question has the head of a shape as an answer in its rows."""
-    return has_answer(question, Database.of(shape[1]), shape[0])
-
-
-def is_least(question, shape):
+def is_least(search, shape):
     """Return whether an early question has the head of a shape as an answer in its rows only if all are there."""
     head, rows = shape
     for k in range(len(rows)):
-        if has_shape(question, (head, rows[:k] + rows[k + 1:])):
+        if search.has(head, rows[:k] + rows[k + 1:]):
             return False
     return True
 
 
-def matters(question, shapes, number):
+def matters(question, search, shapes, number):
     """Return whether a named integer matters for an early question, whose shapes over the named ones are told."""
     # The frozen rules have at most the first new integers, one for each variable.
     spare = new_numbers(question.named, MAX_VARIABLES + 1)[MAX_VARIABLES]
@@ -47,16 +41,18 @@ def matters(question, shapes, number):
         tables = [{number: spare}] if number in numbers_of(shape) else []
         tables.extend([{number: spare, other: number} for other in free_numbers(shape, named)])
         for table in tables:
-            if not has_shape(question, moved(shape, table)):
+            head, rows = moved(shape, table)
+            if not search.has(head, rows):
                 return True
     return False
 
 
 def least_of(question, frozen):
     """Return the least set of an early question with these frozen rules."""
+    search = Cases(question)
     different = {(head, rows): True for head, rows, _ in frozen}
-    shapes = [shape for shape in different if is_least(question, shape)]
-    fixed = tuple([number for number in question.named if matters(question, shapes, number)])
+    shapes = [shape for shape in different if is_least(search, shape)]
+    fixed = tuple([number for number in question.named if matters(question, search, shapes, number)])
     table = table_of(fixed)
     idle = {number: True for number in question.named if number not in table}
     # What an idle integer does, a new one does, too.
@@ -86,12 +82,12 @@ def reduced_to(shapes, table):
     """Return the ascending tuple of those normal forms of some shapes in which no other one is found."""
     forms = sorted(set([normal_of(shape, table) for shape in shapes]))
     least = []
-    for form in forms:
-        # What is found in a normal form, and is another one, has fewer rows.
-        fewer = [other for other in forms if len(other[1]) < len(form[1])]
-        if not has_found(form, fewer, table):
-            least.append(form)
-    return tuple(least)
+    # What is found in a normal form, and is another one, has fewer rows. If it is not a least one itself,
+    # a least one is found in both.
+    for many in range(MAX_ROWS + 1):
+        fewer = list(least)
+        least.extend([form for form in forms if len(form[1]) == many and not has_found(form, fewer, table)])
+    return tuple(sorted(least))
 
 
 def check_sets(shapes, others, fixed):
@@ -155,7 +151,8 @@ def set_and(shapes, others, *, fixed=()):
     check_sets(shapes, others, fixed)
     table = table_of(fixed)
     check_pairs(shapes, others, table)
-    return reduced_to([form for shape in shapes for other in others for form in joined(shape, other, table)], table)
+    ones, twos = reduced_to(shapes, table), reduced_to(others, table)
+    return reduced_to([form for one in ones for two in twos for form in joined(one, two, table)], table)
 
 
 def is_set_within(shapes, others, *, fixed=()):

@@ -112,24 +112,92 @@ def can_differ(values):
     return True
 
 
-def is_possible(state):
-    """Return whether there is a finding."""
+def can_stand_apart(opened):
+    """Return whether rows without a common integer, each with two open ones, can go to rows without one.
+
+    If they can, each of these integers can be given one beside which it stands there, and no two the same. That is
+    quickly found out; so what many rows want of a few integers is not tried in all ways.
+    """
+    taken, beside = {}, {}
+    for names, ways in opened:
+        if len(names) == 2 and names[0] not in taken and names[1] not in taken:
+            taken.update({name: True for name in names})
+            for one, other in ways + tuple([(way[1], way[0]) for way in ways]):
+                others = beside.setdefault(one, {})
+                others[other] = True
+    owners, found = {}, 0
+    for number in beside:
+        if found == len(taken):
+            return True
+        if finds_place(number, beside, owners, {}):
+            found = found + 1
+    return found == len(taken)
+
+
+def remaining(state):
+    """Return a pair that decides whether there is a finding: what is open in the rows, and integers beside them.
+
+    The first value is a tuple of pairs: two or more open integers of a row, and what they can become together. The
+    second one has pairs of an open integer that stands in no such row, and of what it can become.
+    """
+    values, parts = state
+    opened = []
+    for names, ways in parts:
+        places = [k for k in range(len(names)) if len(values[names[k]]) > 1]
+        if len(places) > 1:
+            left = tuple([tuple([way[k] for k in places]) for way in ways])
+            opened.append((tuple([names[k] for k in places]), left))
+    inner = {name: True for names, _ in opened for name in names}
+    beside = [name for name in values if len(values[name]) > 1 and name not in inner]
+    return (tuple(opened), tuple([(name, tuple(sorted(list(values[name])))) for name in beside]))
+
+
+def has_finding(state, failed):
+    """Return whether there is a finding; a dict keeps for what there was none."""
     if state is None or not can_differ(state[0]):
         return False
-    values, parts = state
-    many = {}
-    for names, _ in parts:
-        opened = [name for name in names if len(values[name]) > 1]
-        if len(opened) > 1:
-            many.update({name: len(values[name]) for name in opened})
+    left = remaining(state)
     # Where each row has one open integer at most, it is enough that they can differ.
-    if len(many) == 0:
+    if len(left[0]) == 0:
         return True
-    _, name = min([(many[name], name) for name in many])
+    if left in failed or len(left[0]) > 2 and not can_stand_apart(left[0]):
+        return False
+    values = state[0]
+    _, name = min([(len(values[name]), name) for names, _ in left[0] for name in names])
     for number in values[name]:
-        if is_possible(settled(state, name, number)):
+        if has_finding(settled(state, name, number), failed):
             return True
+    failed[left] = True
     return False
+
+
+def groups_of(parts):
+    """Return the list of the lists of those parts that have open integers in common, directly or through others."""
+    groups = []
+    for part in parts:
+        joined = [part]
+        apart = []
+        for group in groups:
+            if len([True for names, _ in group for name in names if name in part[0]]) > 0:
+                joined = group + joined
+            else:
+                apart.append(group)
+        groups = apart + [joined]
+    return groups
+
+
+def is_possible(state):
+    """Return whether there is a finding."""
+    if state is None:
+        return False
+    groups = groups_of(remaining(state)[0])
+    if len(groups) > 1:
+        # If one of the groups has none by itself, that is not to be found out for all ways of the others.
+        for group in groups:
+            inner = {name: state[0][name] for names, _ in group for name in names}
+            if not has_finding((inner, group), {}):
+                return False
+    return has_finding(state, {})
 
 
 def given_by(head, answer, fixed):
@@ -149,7 +217,12 @@ def state_of(shape, others, given, fixed):
     tables = {}
     for row in others:
         tables.setdefault((row[0], len(row)), []).append(row)
-    parts = [part_of(row, tables.get((row[0], len(row)), []), fixed) for row in shape[1]]
+    parts = []
+    for row in shape[1]:
+        part = part_of(row, tables.get((row[0], len(row)), []), fixed)
+        if len(part[1]) == 0:
+            return None
+        parts.append(part)
     every = {number: True for row in others for number in row[1:] if number not in fixed}
     values = {}
     for name in free_numbers(shape, fixed):

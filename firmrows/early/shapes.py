@@ -111,9 +111,24 @@ def is_finding(shape, database, answer, value, *, fixed=()):
     return all([put_in(row, value) in database for row in shape[1]])
 
 
+def has_fewer(rows, others):
+    """Return whether some table has fewer rows among some rows than among others."""
+    many = {}
+    for row in rows:
+        key = (row[0], len(row))
+        many[key] = many.get(key, 0) + 1
+    for row in others:
+        key = (row[0], len(row))
+        many[key] = many.get(key, 0) - 1
+        if many[key] < 0:
+            return True
+    return False
+
+
 def is_in_shape(shape, other, table):
     """Return whether a shape is found in another one, for arguments that are checked."""
-    if len(shape[0]) != len(other[0]) or len(shape[1]) > len(other[1]):
+    # Different rows go to different ones of their table.
+    if len(shape[0]) != len(other[0]) or len(shape[1]) > len(other[1]) or has_fewer(other[1], shape[1]):
         return False
     return is_found_among(shape, other[1], other[0], table)
 
