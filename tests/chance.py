@@ -280,3 +280,30 @@ def asked_licence(random, question):
 
 def asked_database(random, question, many):
     return Database(*[asked_row(random, question) for _ in range(random.randrange(many + 1))])
+
+
+def deep_rule(random):
+    """A rule that bars rows of which there are many, so that many rows are open."""
+    names = NAMES[:random.randrange(2, 5)]
+    wanted = tuple(("t", name) for name in names)
+    if random.random() < 0.4:
+        wanted = tuple(("r", one, other) for one, other in zip(names, names[1:] + names[:1]))
+    barred = tuple(random.choice((
+        ("s", random.choice(names)), ("r", random.choice(names), random.choice(names)), ("q", random.choice(names), random.choice(names)),
+        ("u", random.choice(names), random.choice(names), random.choice(names)))) for _ in range(random.randrange(1, 4)))
+    pairs = [(random.choice(names), random.choice(names + (0,))) for _ in range(random.randrange(3))]
+    return ((), wanted, barred, tuple(pair for pair in pairs if pair[0] != pair[1]))
+
+
+def deep_question(random):
+    """A question whose case trees ask for many rows."""
+    rules = []
+    for _ in range(random.randrange(1, 4)):
+        rule = deep_rule(random)
+        head, wanted, barred, unlike = rule
+        if random.random() < 0.5 and len(wanted) < 4:
+            rules.append((head, wanted + barred[:1], barred[1:], unlike))
+        rules.append(rule)
+    if random.random() < 0.3:
+        rules.append(((), (("t", 0), ("t", 1)), (), ()))
+    return Question(*rules)

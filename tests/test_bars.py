@@ -303,6 +303,20 @@ class BarTreeTests(ErrorTests):
             self.assertIs(is_bar_tree(ALONE, ROWS, GROWING, (2,), 0, ("is", "x", ((2, value),), NONE)), False)
         self.assertIs(is_bar_tree(ALONE, ROWS, GROWING, (2,), 0, ("is", "x", ((2, ("stays", 0)),), NONE)), True)
 
+    def test_what_two_variables_differ_from(self):
+        # b differs from a and from 5, and still does so when a is 7.
+        question = Question(make_rule((), ("r", "a", "b"), barred=(("s", "b"),), unlike=(("a", "b"),)))
+        base, licence = Database(("s", 5)), Licence(come=(("r", 7, 5),))
+        for first, second in (("a", "b"), ("b", "a")):
+            for last in (("is", "a", ((7, ("never", 0)),), ("never", 0)), ("never", 0)):
+                below = ("is", "b", ((5, ("stays", 0)),), last)
+                tree = ("is", first, ((second, ("pair", 0)),), below)
+                self.assertIs(is_bar_tree(question, base, licence, (), 0, tree), True)
+                self.assertIs(oracle.is_right_bars(tree, question.rules[0], base.rows, licence, ()), True)
+                for other in (("is", "b", ((6, ("stays", 0)),), last), ("is", "b", ((5, ("never", 0)),), last), last):
+                    wrong = ("is", first, ((second, ("pair", 0)),), other)
+                    self.assertIs(is_bar_tree(question, base, licence, (), 0, wrong), False)
+
     def test_errors(self):
         self.check_errors(lambda *five: is_bar_tree(*five, NONE), *CASE, (1, wrong_indices(2), InvalidNumber))
         for index in (0, -1, True, None):

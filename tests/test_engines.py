@@ -175,6 +175,8 @@ class EngineTests(ObjectTests):
         self.assertEqual(state(engine), before)
         self.assert_error(NotLet, engine.put, [("s", 60)])
         self.assertEqual([engine.put(("t", 59)), len(engine)], [(), 1])
+        engine = Engine(ALONE, GROWING.sealed(("s", "x")), database=FULL - Database(("t", 7)))
+        self.assertEqual([engine.put(("t", 7)), len(engine.database)], [((7,),), 60])
 
     def test_too_many_open_rows(self):
         question = Question(make_rule((), ("t", "x"), barred=(("s", "x"),)))

@@ -12,7 +12,7 @@ from firmrows.errors import InvalidOperation, InvalidQuestion, TooMany
 from firmrows.future.licences import Licence
 from firmrows.papers.trees import depth
 from tests import oracle
-from tests.chance import some_other_tree, some_small_question, some_variation
+from tests.chance import deep_question, some_other_tree, some_small_question, some_variation
 from tests.samples import ALONE, EITHER, GROWING, HUGE, ROWS, SPLIT, ErrorTests, every_value, wrong_objects
 
 PLAIN = Question(make_rule(("x",), ("t", "x")))
@@ -240,6 +240,43 @@ class WithinTests(ErrorTests):
         self.assertIs(is_within_paper(question, other, ("apart", base, ())), True)
         self.assertIs(is_within_paper(question, other, ("apart", base.without_rows(("u", 3, 1, 2)), ())), False)
         self.assertIs(is_within_paper(question, other, ("within", (("match", 0, (0, 1, 2)),))), False)
+
+    def test_many_open_rows(self):
+        # Papers are right also where the search for them came near its end.
+        source = random.Random(91)
+        told = []
+        for _ in range(150):
+            one, other = deep_question(source), deep_question(source)
+            try:
+                paper = within_paper(one, other)
+            except TooMany as error:
+                self.assertEqual(error.limit, 16)
+                told.append("many")
+                continue
+            told.append(paper[0])
+            self.assertIs(is_within_paper(one, other, paper), True)
+            try:
+                self.assertEqual(comparison(one, other) in ("equal", "within"), paper[0] == "within")
+            except TooMany as error:
+                self.assertEqual(error.limit, 16)
+        self.assertGreater(min(told.count("apart"), told.count("within")), 3)
+
+    def test_a_deep_tree(self):
+        question = Question(make_rule((), ("t", 0), ("t", 1), ("t", 2), barred=(("u", 0, 1, 2),)))
+        other = Question(
+            make_rule((), ("t", "x"), ("t", "y"), barred=(("r", "y", "x"), ("s", "x"))),
+            make_rule((), ("t", "x"), ("t", "y"), ("t", "z"), ("t", "w"), barred=(("q", "z", "w"), ("q", "x", "w"), ("q", "z", "z")),
+                      unlike=(("z", 0),)), make_rule((), ("t", 0), ("t", 1)))
+        paper = within_paper(question, other)
+        self.assertEqual(paper[0], "within")
+        self.assertIs(is_within_paper(question, other, paper), True)
+        less = Question(*other.rules[:2])
+        try:
+            paper = within_paper(question, less)
+            self.assertEqual(paper[0], "apart")
+            self.assertIs(is_within_paper(question, less, paper), True)
+        except TooMany as error:
+            self.assertEqual(error.limit, 16)
 
     def test_too_many_ways(self):
         four = (("t", "a"), ("t", "b"), ("t", "c"), ("t", "d"))

@@ -21,20 +21,20 @@ def labelled(terms, labels, fresh, many):
     return more
 
 
-def is_swap(shape, one, other):
-    """Return whether the shape stays the same if two of its integers are exchanged."""
-    head, rows = shape
+def is_swap(rows, one, other):
+    """Return whether the rows stay the same if two of their integers are exchanged."""
     table = {one: other, other: one}
-    if put_in_terms(head, table) != head:
-        return False
     return len([row for row in rows if put_in(row, table) not in rows]) == 0
 
 
-def twins_of(shape, free):
-    """Return a dict that takes each integer to the first one with which it can be exchanged."""
+def twins_of(rows, free):
+    """Return a dict that takes each integer to the first one with which it can be exchanged.
+
+    That is asked for integers without label; so it does not matter what stands in the head.
+    """
     twins = {}
     for number in free:
-        alike = [other for other in twins if twins[other] == other and is_swap(shape, number, other)]
+        alike = [other for other in twins if twins[other] == other and is_swap(rows, number, other)]
         twins[number] = alike[0] if len(alike) > 0 else number
     return twins
 
@@ -72,7 +72,7 @@ def normal_of(shape, fixed):
     head, rows = shape
     free = free_numbers(shape, fixed)
     fresh = new_numbers(tuple(list(fixed)), len(free))
-    twins = twins_of(shape, free)
+    twins = twins_of(rows, free)
     start = labelled(head, {number: number for number in fixed}, fresh, len(fixed))
     states = [(start, list(rows))]
     made = []
