@@ -174,8 +174,7 @@ class EditTests(ErrorTests):
                         self.assertIs(judge(question, pattern, ("no " + word, given)), expected)
                     for given in (trees[1:], trees + trees[-1:], trees[:1] + trees, list(trees)):
                         self.assertIs(judge(question, pattern, ("no " + word, given)), False)
-                    self.assertIs(judge(question, pattern, ("no gain" if not gains else "no loss", trees)), False if len(
-                        cases_of(pairs, not gains)) != len(trees) else is_no_paper(question, pairs, not gains, trees))
+                    self.assertIs(judge(question, pattern, ("no gain" if not gains else "no loss", trees)), False)
                 elif paper[0] == word:
                     _, base, row, answer = paper
                     for _ in range(4):
