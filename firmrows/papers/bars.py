@@ -6,7 +6,7 @@ from firmrows.base.patterns import bound, is_filling, put_in, put_in_terms
 from firmrows.base.rows import is_name
 from firmrows.errors import InvalidOperation
 from firmrows.papers.checks import check_case
-from firmrows.papers.equal import has_equal, makes_equal, start_of, states_below
+from firmrows.papers.equal import case_state, has_equal, makes_equal, parted, start_of
 
 IS = "is"
 PAIR = "pair"
@@ -161,17 +161,18 @@ class BarCheck:
 
     def is_right(self, node, state):
         """Return whether all leaves below a node are right, if their indices exist."""
-        if state is None:
-            return True
-        if not is_inner(node):
-            return self.holds(node, state)
-        _, variable, cases, other = node
-        states = states_below(state, variable, [term for term, _ in cases])
-        trees = [tree for _, tree in cases] + [other]
-        for k in range(len(trees)):
-            if not self.is_right(trees[k], states[k]):
-                return False
-        return True
+        while state is not None and node[0] == IS:
+            _, variable, cases, other = node
+            terms, names = [], []
+            for term, tree in cases:
+                below = case_state(state, variable, term, terms, names)
+                if below is not None and not self.is_right(tree, below):
+                    return False
+                terms.append(term)
+                if isinstance(term, str):
+                    names.append(term)
+            node, state = other, parted(state, variable, terms)
+        return state is None or self.holds(node, state)
 
 
 def is_bar_tree_of(rule, database, licence, answer, value):

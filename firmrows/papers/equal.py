@@ -57,17 +57,18 @@ def parted(state, one, others):
     return (table, more)
 
 
+def case_state(state, variable, term, terms, names):
+    """Return the state in which a variable is equal to a term, but to none of some terms, among which are the names."""
+    # What is equal to an integer differs from the other ones by itself.
+    return parted(equated(state, variable, term), variable, terms if isinstance(term, str) else names)
+
+
 def states_below(state, variable, terms):
     """Return the list of the states below a node that asks what a variable is equal to, the last one for `other`."""
     states = []
-    names = []
     for k in range(len(terms)):
-        term = terms[k]
-        # What is equal to an integer differs from the other ones by itself.
-        before = terms[:k] if isinstance(term, str) else names
-        states.append(parted(equated(state, variable, term), variable, before))
-        if isinstance(term, str):
-            names.append(term)
+        names = [term for term in terms[:k] if isinstance(term, str)]
+        states.append(case_state(state, variable, terms[k], terms[:k], names))
     states.append(parted(state, variable, terms))
     return states
 
