@@ -172,6 +172,10 @@ class EditTests(ErrorTests):
                         self.assertIs(oracle.is_right(given[at], question.rules, base.rows, licence, head), expected)
                         told.append((False, expected))
                         self.assertIs(judge(question, pattern, ("no " + word, given)), expected)
+                    at, other = source.randrange(len(trees)), source.randrange(len(trees))
+                    given = list(trees)
+                    given[at], given[other] = given[other], given[at]
+                    self.assertIs(judge(question, pattern, ("no " + word, tuple(given))), is_no_paper(question, pairs, gains, tuple(given)))
                     for given in (trees[1:], trees + trees[-1:], trees[:1] + trees, list(trees)):
                         self.assertIs(judge(question, pattern, ("no " + word, given)), False)
                     self.assertIs(judge(question, pattern, ("no gain" if not gains else "no loss", trees)), False)

@@ -2,6 +2,7 @@
 
 import random
 import unittest
+from itertools import product
 
 from firmrows.ask.questions import Question, make_rule
 from firmrows.compare.frozen import frozen_rules
@@ -24,6 +25,17 @@ def ways(variables, named):
             more[new + 1] = more.get(new + 1, 0) + many
         counts = more
     return sum(counts.values())
+
+
+def ways_of(rule, numbers):
+    """The ways to give integers to the variables of a rule without barred patterns."""
+    names = oracle.variables(rule)
+    new = [number for number in range(100, 104)][:len(names)]
+    for values in product(numbers + tuple(new), repeat=len(names)):
+        firsts = [value for at, value in enumerate(values) if value in new and value not in values[:at]]
+        table = dict(zip(names, values))
+        if firsts == new[:len(firsts)] and all(oracle.value_of(one, table) != oracle.value_of(other, table) for one, other in rule[3]):
+            yield values
 
 
 class FrozenTests(ErrorTests):
@@ -119,6 +131,21 @@ class FrozenTests(ErrorTests):
         self.assertEqual(ways(2, 43), 1937)
         one = Question(make_rule((), ("t", "x")))
         self.assertEqual(len(frozen_rules(one, named=tuple(range(1999)))), 2000)
+
+    def test_exactly_two_thousand_ways(self):
+        rules = [make_rule((), ("t", "a"), ("t", "b"), ("t", "c"), ("t", "d")), make_rule((), ("u", "a", "b", "c")),
+                 make_rule((), ("v", "a", "b", "c"), unlike=(("a", 1),))]
+        rules += [make_rule((), ("w", "x"), *[("k", number) for number in more]) for more in ((1,), (2,), (3,), (4, 5))]
+        for last, many in (((("x", 1), ("x", 2), ("x", 3)), 2000), ((("x", 1), ("x", 2)), 2001)):
+            question = Question(*rules, make_rule((), ("y", "x"), unlike=last))
+            self.assertEqual(question.named, (1, 2, 3, 4, 5))
+            found = sum(len(list(ways_of(rule, question.named))) for rule in question.rules)
+            self.assertEqual(found, many)
+            try:
+                self.assertEqual(frozen_rules(question), oracle.frozen_rules(question.rules, ()))
+                self.assertEqual(many, 2000)
+            except TooMany as error:
+                self.assertEqual((error.limit, many), (2000, 2001))
 
     def test_errors(self):
         questions = (SPLIT, wrong_objects(Question), InvalidQuestion)
